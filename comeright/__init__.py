@@ -1,0 +1,1 @@
+"""Webs of hands that come right from whatever they stand at."""

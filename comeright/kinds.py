@@ -1,0 +1,21 @@
+"""Plain kinds of things: whole numbers, rows, rising rows. All of these take anything."""
+
+
+def is_below(thing, top):
+    """Whether it is a whole number from 0 on, less than top."""
+    return type(thing) is int and 0 <= thing < top
+
+
+def is_row(thing, least, most):
+    """Whether it is a row of least to most parts."""
+    return type(thing) is tuple and least <= len(thing) <= most
+
+
+def is_rising(row):
+    """Whether each part of a row of like things is less than the one behind it."""
+    return all([row[at] < row[at + 1] for at in range(len(row) - 1)])
+
+
+def replaced(row, at, part):
+    """The row with this part in the place of the one that stands there."""
+    return row[:at] + (part,) + row[at + 1:]

@@ -1,0 +1,1 @@
+"""Plain runs, and how far their levels reach."""

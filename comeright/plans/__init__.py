@@ -1,0 +1,1 @@
+"""Terms and plans: what seats do, round by round."""

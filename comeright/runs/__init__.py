@@ -1,0 +1,1 @@
+"""Runs of deeds, and the waves in them."""

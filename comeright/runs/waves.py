@@ -1,0 +1,110 @@
+"""Waves: stretches of a run in which all that aren't apart reckon, and hear of what others reckoned in them."""
+
+from comeright.kinds import is_rising, is_row
+from comeright.runs.marks import first_marks, move_marks
+from comeright.runs.runs import after_all, last_change_of, need_moment, need_run
+from comeright.scenes.scenes import WEB
+from comeright.webs.webs import need_seats, pairs
+
+# Of a letter that no reckon of the run stands behind: less than each moment.
+NEVER = -1
+
+
+def wants(web, apart):
+    """What a wave has to have: (s, s), a reckon of s; (s, u), that u hears of it. As a dict from each to True."""
+    reckons = [(seat, seat) for seat in range(web[0])]
+    return {pair: True for pair in reckons + list(pairs(web)) if pair[0] not in apart and pair[1] not in apart}
+
+
+def gifts(scene, deeds):
+    """For each deed None, or (s, u, number): of wants (s, u) it gives what hangs on the reckon of that number."""
+    told = []
+    marks = first_marks(scene, NEVER)
+    reckons = [NEVER] * scene[WEB][0]
+    for at, deed in enumerate(deeds):
+        seat = deed[1]
+        heard = move_marks(marks, deed, reckons[seat], NEVER)
+        if deed[0] == "reckon":
+            reckons[seat] = at
+            told.append((seat, seat, at))
+        elif deed[0] == "hear":
+            told.append((deed[2], seat, heard))
+        else:
+            told.append(None)
+    return told
+
+
+def wave_end(given, wanted, begin):
+    """The earliest moment by which a stretch from begin has all that is wanted; None where there is none."""
+    missing = {pair: True for pair in wanted}
+    for at in range(begin, len(given)):
+        gift = given[at]
+        if gift is not None and gift[2] >= begin:
+            missing.pop((gift[0], gift[1]), None)
+        if len(missing) == 0:
+            return at + 1
+    return None
+
+
+def all_ends(given, wanted, begin):
+    """The moments that show the most waves from begin on."""
+    told = []
+    end = begin
+    while end is not None:
+        told.append(end)
+        end = wave_end(given, wanted, end)
+    return tuple(told)
+
+
+def wants_at(scene, deeds, moment, apart):
+    """What a wave has to have that begins at a moment, in the web as it is then."""
+    return wants(after_all(scene, deeds[:moment])[WEB], apart)
+
+
+def is_wave(scene, deeds, begin, end, *, apart=()):
+    """Whether the stretch from a moment to a later one is a wave apart from some seats."""
+    need_run(scene, deeds)
+    need_moment(deeds, begin)
+    need_moment(deeds, end)
+    need_seats(scene[WEB], apart)
+    if end <= begin or last_change_of(deeds[begin:end], apart) > 0:
+        return False
+    given = gifts(scene, deeds[:end])
+    return wave_end(given, wants_at(scene, deeds, begin, apart), begin) is not None
+
+
+def waves(scene, deeds, *, apart=()):
+    """The most waves that a run shows behind the last change of others."""
+    return len(wave_ends(scene, deeds, apart=apart)) - 1
+
+
+def wave_ends(scene, deeds, *, apart=()):
+    """The row of moments that shows the most waves: where they begin, and the earliest end of each."""
+    need_run(scene, deeds)
+    need_seats(scene[WEB], apart)
+    begin = last_change_of(deeds, apart)
+    return all_ends(gifts(scene, deeds), wants_at(scene, deeds, begin, apart), begin)
+
+
+def are_moments(deeds, thing, begin):
+    """Whether it is a rising row of one moment or more, none ahead of begin."""
+    if not is_row(thing, 1, len(deeds) + 1) or not all([type(moment) is int for moment in thing]):
+        return False
+    return is_rising(thing) and begin <= thing[0] and thing[-1] <= len(deeds)
+
+
+def shows_waves(scene, deeds, thing, *, apart=()):
+    """Whether it shows some waves of a run behind the last change of others, however many."""
+    need_run(scene, deeds)
+    need_seats(scene[WEB], apart)
+    begin = last_change_of(deeds, apart)
+    if not are_moments(deeds, thing, begin):
+        return False
+    given = gifts(scene, deeds)
+    wanted = wants_at(scene, deeds, begin, apart)
+    for moment, later in zip(thing, thing[1:]):
+        # A stretch is a wave just where the earliest end from its begin on is no later than its own.
+        end = wave_end(given, wanted, moment)
+        if end is None or end > later:
+            return False
+    return True

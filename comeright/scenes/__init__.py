@@ -1,0 +1,1 @@
+"""Scenes, and the deeds done in them."""

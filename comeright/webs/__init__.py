@@ -1,0 +1,1 @@
+"""Webs: seats, ties, steps."""

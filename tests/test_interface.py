@@ -1,0 +1,49 @@
+"""The interface as it is listed: names, arguments, and the files that they are defined in."""
+
+import importlib
+import inspect
+import unittest
+
+LISTED = {
+    "webs.webs": ("is_web(thing)", "neighbours(web, seat)", "steps(web, seat, other)", "steps_to(web, seats)",
+                  "within(web, seat, far)"),
+    "plans.terms": ("is_first(thing)", "is_next(thing)", "does_look(term)", "comes_to(term, worth, heap)"),
+    "plans.plans": ("is_plan(thing)", "is_plans(thing)", "rounds(plan)", "width(plans)", "looking(plan)"),
+    "plain.plain": ("is_words(web, thing)", "is_goes(plans, web, thing)", "levels(plans, web, words, goes)",
+                    "plain_tells(plans, web, words, goes)"),
+    "plain.reach": ("reach(plans, web, goes)",),
+    "scenes.scenes": ("is_scene(thing)", "right_scene(plans, web, words, goes)", "flat_scene(plans, web, words, goes)",
+                      "loud_scene(plans, web, words, goes)", "is_right(scene)", "plain_of(scene)", "tells(scene)",
+                      "row_of(scene, seat)", "copy_of(scene, seat, other)", "road_of(scene, seat, other)"),
+    "scenes.deeds": ("is_deed(scene, thing)", "is_change(scene, deed)", "changed(scene, deed)", "done(scene, deed)"),
+    "runs.runs": ("is_run(scene, thing)", "behind(scene, deeds)", "scene_at(scene, deeds, moment)",
+                  "last_change(scene, deeds)"),
+    "runs.waves": ("is_wave(scene, deeds, begin, end, *, apart=())", "waves(scene, deeds, *, apart=())",
+                   "wave_ends(scene, deeds, *, apart=())", "shows_waves(scene, deeds, thing, *, apart=())"),
+}
+NUMBERS = {
+    "webs.webs": {"MOST_SEATS": 12}, "plans.terms": {"WORTHS": 997}, "plans.plans": {"MOST_ROUNDS": 6, "MOST_PLANS": 3},
+    "scenes.scenes": {"ROAD": 8}, "runs.runs": {"MOST_DEEDS": 2000},
+}
+
+
+class Interface(unittest.TestCase):
+    def test_defs(self):
+        for name, listed in LISTED.items():
+            module = importlib.import_module("comeright." + name)
+            for row in listed:
+                asked = getattr(module, row.partition("(")[0])
+                self.assertEqual(asked.__name__ + str(inspect.signature(asked)), row)
+                self.assertEqual(asked.__module__, module.__name__)
+
+    def test_numbers(self):
+        for name, listed in NUMBERS.items():
+            module = importlib.import_module("comeright." + name)
+            for word, number in listed.items():
+                self.assertEqual(getattr(module, word), number)
+
+    def test_ops(self):
+        terms = importlib.import_module("comeright.plans.terms")
+        self.assertIs(type(terms.OPS), dict)
+        for op in terms.OPS.values():
+            self.assertEqual(len(inspect.signature(op).parameters), 2)

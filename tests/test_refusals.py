@@ -1,0 +1,132 @@
+"""[2]: what is refused, with which error, bearing what; and that nothing handed in is changed."""
+
+import unittest
+
+from comeright import errors
+from comeright.plain.plain import is_goes, is_words, levels, plain_tells
+from comeright.plain.reach import reach
+from comeright.plans.plans import is_plan, is_plans, looking, rounds, width
+from comeright.plans.terms import comes_to, does_look, is_first, is_next
+from comeright.runs.runs import behind, is_run, last_change, scene_at
+from comeright.runs.waves import is_wave, shows_waves, wave_ends, waves
+from comeright.scenes.deeds import changed, done, is_change, is_deed
+from comeright.scenes.scenes import (
+    copy_of, flat_scene, is_right, is_scene, loud_scene, plain_of, right_scene, road_of, row_of, tells,
+)
+from comeright.webs.webs import is_web, neighbours, steps, steps_to, within
+from tests.samples import LINE, ODD, PLANS, deep, spoiled
+
+WORDS, GOES = (5, 9, 3, 7), (0, 1, 2, 0)
+SCENE = right_scene(PLANS, LINE, WORDS, GOES)
+TERM = ("if", ("ties",), ("low", ("own",), ("least",)), ("own",))
+RUN = (("send", 0, 1), ("hear", 1, 0), ("word", 3, 8), ("reckon", 3))
+
+WEB = (LINE, "NoWeb", None)
+SEAT = (1, "NoSeat", "seat")
+OTHER = (2, "NoSeat", "seat")
+SEATS = ((0, 2), "NoSeat", "seat")
+PARTS = ((PLANS, "NoPlans", None), WEB, (WORDS, "NoWords", None), (GOES, "NoGoes", None))
+A_SCENE = (SCENE, "NoScene", None)
+A_RUN = (RUN, "NoRun", "at")
+MOMENT = (3, "NoNumber", "number")
+# Of each def of the interface its arguments, each with what it is refused with, and what that bears.
+ASKS = (
+    (neighbours, (WEB, SEAT)), (steps, (WEB, SEAT, OTHER)), (steps_to, (WEB, SEATS)),
+    (within, (WEB, SEAT, (2, "NoNumber", "number"))), (does_look, ((TERM, "NoTerm", None),)),
+    (comes_to, ((TERM, "NoTerm", None), (4, "NoNumber", "number"), ((1, 2), "NoWords", None))),
+    (rounds, ((PLANS[0], "NoPlan", None),)), (looking, ((PLANS[0], "NoPlan", None),)), (width, PARTS[:1]),
+    (is_words, (WEB, (WORDS, None, None))), (is_goes, (PARTS[0], WEB, (GOES, None, None))), (levels, PARTS),
+    (plain_tells, PARTS), (reach, (PARTS[0], WEB, PARTS[3])), (right_scene, PARTS), (flat_scene, PARTS),
+    (loud_scene, PARTS), (is_right, (A_SCENE,)), (plain_of, (A_SCENE,)), (tells, (A_SCENE,)), (row_of, (A_SCENE, SEAT)),
+    (copy_of, (A_SCENE, SEAT, OTHER)), (road_of, (A_SCENE, SEAT, OTHER)), (is_deed, (A_SCENE, (RUN[0], None, None))),
+    (is_change, (A_SCENE, (RUN[0], "NoDeed", None))), (changed, (A_SCENE, (RUN[0], "NoDeed", None))),
+    (done, (A_SCENE, (RUN[0], "NoDeed", None))), (is_run, (A_SCENE, (RUN, None, None))), (behind, (A_SCENE, A_RUN)),
+    (scene_at, (A_SCENE, A_RUN, MOMENT)), (last_change, (A_SCENE, A_RUN)),
+    (is_wave, (A_SCENE, A_RUN, MOMENT, MOMENT)), (waves, (A_SCENE, A_RUN)), (wave_ends, (A_SCENE, A_RUN)),
+    (shows_waves, (A_SCENE, A_RUN, ((3, 4), None, None))),
+)
+BY_NAME = (is_wave, waves, wave_ends, shows_waves)
+CHECKS = (is_web, is_first, is_next, is_plan, is_plans, is_scene)
+
+
+def wrong_in(handed, at):
+    """What cannot stand in this place, whatever the other arguments are."""
+    return (None, "no", [handed[at]], {}, (True,), {"at": 0}, deep(lambda told: [told], 30), -(10 ** 39), True)
+
+
+class Refused(unittest.TestCase):
+    def refused(self, ask, handed, error, bearing, thing, **named):
+        with self.assertRaises(getattr(errors, error)) as told:
+            ask(*handed, **named)
+        self.assertIs(type(told.exception), getattr(errors, error))
+        if bearing == "at":
+            self.assertEqual(told.exception.at, 0)
+        elif bearing is not None:
+            self.assertIs(getattr(told.exception, bearing), thing)
+
+    def test_well_handed_in(self):
+        for ask, arguments in ASKS:
+            handed = [argument[0] for argument in arguments]
+            before = repr(handed)
+            told = ask(*handed)
+            self.assertEqual(repr(ask(*handed)), repr(told))
+            self.assertEqual(repr(handed), before)
+
+    def test_one_is_wrong(self):
+        for ask, arguments in ASKS:
+            good = [argument[0] for argument in arguments]
+            for at, (_, error, bearing) in enumerate(arguments):
+                for wrong in wrong_in(good, at):
+                    handed = good[:at] + [wrong] + good[at + 1:]
+                    if error is None:
+                        self.assertIs(ask(*handed), False)
+                    else:
+                        self.refused(ask, handed, error, bearing, wrong)
+
+    def test_several_are_wrong(self):
+        for ask, arguments in ASKS:
+            good = [argument[0] for argument in arguments]
+            for at, (_, error, bearing) in enumerate(arguments):
+                for later in range(at + 1, len(arguments)):
+                    if error is not None:
+                        self.refused(ask, good[:at] + ["no"] + good[at + 1:later] + [None] + good[later + 1:], error,
+                                     bearing, "no")
+                        wrong = [None] * (len(good) - at)
+                        self.refused(ask, good[:at] + wrong, error, bearing, None)
+
+    def test_what_is_told_by_name_goes_last(self):
+        for ask, arguments in ASKS:
+            if ask in BY_NAME:
+                good = [argument[0] for argument in arguments]
+                self.refused(ask, good, "NoSeat", "seat", True, apart=True)
+                for at, (_, error, bearing) in enumerate(arguments):
+                    if error is not None:
+                        self.refused(ask, good[:at] + [None] * (len(good) - at), error, bearing, None, apart=True)
+                    else:
+                        self.refused(ask, good[:at] + [None], "NoSeat", "seat", True, apart=True)
+
+    def test_of_anything(self):
+        for ask, arguments in ASKS:
+            good = [argument[0] for argument in arguments]
+            for at, (_, error, bearing) in enumerate(arguments):
+                if error in (None, "NoSeat", "NoNumber", "NoWords"):
+                    continue
+                for thing in ODD:
+                    if error != "NoRun" or thing != ():
+                        self.refused(ask, good[:at] + [thing] + good[at + 1:], error, bearing, thing)
+
+    def test_a_part_of_it_is_wrong(self):
+        for thing in list(spoiled(SCENE))[::7]:
+            self.assertRaises(errors.NoScene, tells, thing)
+        for thing in spoiled(LINE):
+            self.assertRaises(errors.NoWeb, neighbours, thing, 0)
+        for thing in spoiled(WORDS):
+            self.assertRaises(errors.NoWords, levels, PLANS, LINE, thing, GOES)
+        for thing in spoiled(GOES):
+            self.assertRaises(errors.NoGoes, levels, PLANS, LINE, WORDS, thing)
+
+    def test_checks_tell_truths_of_anything(self):
+        for check in CHECKS:
+            for thing in ODD:
+                self.assertIs(check(thing), False)
+        self.assertIs(is_first(0), True)
