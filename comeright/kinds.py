@@ -14,8 +14,3 @@ def is_row(thing, least, most):
 def is_rising(row):
     """Whether each part of a row of like things is less than the one behind it."""
     return all([row[at] < row[at + 1] for at in range(len(row) - 1)])
-
-
-def replaced(row, at, part):
-    """The row with this part in the place of the one that stands there."""
-    return row[:at] + (part,) + row[at + 1:]

@@ -22,7 +22,7 @@ TAKEN = set(
 PLAIN = (ast.Import, ast.ImportFrom, ast.FunctionDef, ast.ClassDef, ast.Assign, ast.Expr)
 BARRED = (
     ast.Try, ast.Global, ast.Nonlocal, ast.AsyncFunctionDef, ast.Await, ast.GeneratorExp, ast.SetComp, ast.Set, ast.Yield,
-    ast.YieldFrom, ast.With, ast.Div, ast.MatMult, ast.Lambda, ast.AnnAssign, ast.NamedExpr,
+    ast.YieldFrom, ast.With, ast.Div, ast.MatMult, ast.AnnAssign, ast.NamedExpr,
 )
 
 
@@ -104,6 +104,11 @@ class Language(unittest.TestCase):
                     self.assertNotIn(node.id, imports | TAKEN, (path, node.lineno))
 
     def test_calls(self):
+        own = {
+            part.name for tree in self.trees.values() for node in ast.walk(tree) if isinstance(node, ast.ClassDef)
+            for part in node.body if isinstance(part, ast.FunctionDef)
+        }
+        self.assertEqual(own & METHODS, set())
         for path, tree in self.trees.items():
             module = {node.id for node in ast.walk(tree) if isinstance(node, ast.Name) and isinstance(node.ctx, ast.Store)}
             module |= {node.name for node in ast.walk(tree) if isinstance(node, (ast.FunctionDef, ast.ClassDef))}
@@ -112,7 +117,18 @@ class Language(unittest.TestCase):
                 if isinstance(node, ast.Call) and isinstance(node.func, ast.Name):
                     self.assertIn(node.func.id, module | BUILTINS, (path, node.lineno))
                 if isinstance(node, ast.Call) and isinstance(node.func, ast.Attribute):
-                    self.assertIn(node.func.attr, METHODS | {"__init__"}, (path, node.lineno))
+                    self.assertIn(node.func.attr, METHODS | own, (path, node.lineno))
+
+    def test_what_is_not_taken_by_name(self):
+        """A call of a thing in a table: it is given a name first; builtins are called, not handed on."""
+        for path, tree in self.trees.items():
+            called = {id(node.func) for node in ast.walk(tree) if isinstance(node, ast.Call)}
+            asked = {id(node.args[1]) for node in ast.walk(tree) if isinstance(node, ast.Call) and len(node.args) == 2}
+            for node in ast.walk(tree):
+                if isinstance(node, ast.Call):
+                    self.assertIsInstance(node.func, (ast.Name, ast.Attribute), (path, node.lineno))
+                if isinstance(node, ast.Name) and node.id in ("len", "min", "max", "sum", "sorted", "any", "all", "range"):
+                    self.assertTrue(id(node) in called or id(node) in asked, (path, node.lineno))
 
     def test_no_two_files_import_from_each_other(self):
         near = {}

@@ -1,20 +1,30 @@
 """Plain runs: all seats go round by round at once."""
 
 from comeright.errors import NoGoes, NoWords
-from comeright.kinds import is_below, is_row
+from comeright.plans.makers import makers_of
 from comeright.plans.plans import need_plans, wide
-from comeright.plans.terms import is_worth, worth_of
-from comeright.webs.webs import beside, need_web
+from comeright.plans.terms import WORTHS
+from comeright.webs.webs import all_beside, need_web
+
+
+def are_below(many, top, thing):
+    """Whether it is a row of so many whole numbers from 0 on, all less than top."""
+    if type(thing) is not tuple or len(thing) != many:
+        return False
+    for number in thing:
+        if type(number) is not int or not 0 <= number < top:
+            return False
+    return True
 
 
 def are_words(web, thing):
     """Whether it is a row of worths, one for each seat of what surely is a web."""
-    return is_row(thing, web[0], web[0]) and all([is_worth(word) for word in thing])
+    return are_below(web[0], WORTHS, thing)
 
 
 def are_goes(plans, web, thing):
     """Whether it is a row of numbers of plans, one for each seat of what surely is a web."""
-    return is_row(thing, web[0], web[0]) and all([is_below(number, len(plans)) for number in thing])
+    return are_below(web[0], len(plans), thing)
 
 
 def need_goes(plans, web, goes):
@@ -32,37 +42,39 @@ def need_run_of(plans, web, words, goes):
     need_goes(plans, web, goes)
 
 
-def first_worth(plan, word, ties):
-    """Level 0 of a seat, by its word and how many neighbours it has."""
-    # A first looks at none of the heap: only how many are in it counts.
-    return worth_of(plan[0], word, (0,) * ties)
+def makers_for(plans, goes):
+    """For each seat the makers of the plan that it goes by."""
+    by_plan = [makers_of(plan, goes.count(number)) for number, plan in enumerate(plans)]
+    return [by_plan[number] for number in goes]
 
 
-def next_worth(plan, at, own, heap):
-    """The level above level at of a seat, by that level and those of its neighbours; 0 where its plan lacks it."""
-    nexts = plan[1]
-    if at >= len(nexts):
-        return 0
-    return worth_of(nexts[at], own, heap)
-
-
-def next_level(plans, web, goes, level, at):
-    """For each seat the worth above level at, by the worths that all seats have there."""
-    return [
-        next_worth(plans[goes[seat]], at, level[seat], tuple([level[other] for other in beside(web, seat)]))
-        for seat in range(web[0])
-    ]
+def next_level(makers, near, below, at):
+    """For each seat the worth above level at, by the worths that all seats have there; 0 where its plan lacks it."""
+    level = []
+    for seat, others in enumerate(near):
+        _, nexts = makers[seat]
+        if at < len(nexts):
+            make = nexts[at]
+            level.append(make(below[seat], [below[other] for other in others]))
+        else:
+            level.append(0)
+    return level
 
 
 def plain_levels(plans, web, words, goes):
     """The levels of each seat in the plain run, of what surely are plans, a web, words and goes of it."""
-    seats = range(web[0])
-    level = [first_worth(plans[goes[seat]], words[seat], len(beside(web, seat))) for seat in seats]
+    near = all_beside(web)
+    makers = makers_for(plans, goes)
+    level = []
+    for seat, word in enumerate(words):
+        first, _ = makers[seat]
+        # A first looks at none of the heap: only how many are in it counts.
+        level.append(first(word, near[seat]))
     told = [level]
     for at in range(wide(plans) - 1):
-        level = next_level(plans, web, goes, level, at)
+        level = next_level(makers, near, level, at)
         told.append(level)
-    return tuple([tuple([made[seat] for made in told]) for seat in seats])
+    return tuple(zip(*told))
 
 
 def told_levels(plans, goes, rows):

@@ -1,25 +1,39 @@
 """How many steps away what a level hangs on may be."""
 
 from comeright.plain.plain import need_goes
-from comeright.plans.plans import does_next_look, need_plans, wide
-from comeright.webs.webs import beside, need_web
+from comeright.plans.plans import need_plans, wide
+from comeright.plans.terms import looks
+from comeright.webs.webs import all_beside, need_web
 
 
-def reach_above(plans, web, goes, far, at, seat):
-    """How far a seat's level above level at reaches, by how far all seats' levels there do."""
-    if not does_next_look(plans[goes[seat]], at):
-        return far[seat]
-    return max([far[seat]] + [far[other] + 1 for other in beside(web, seat)])
+def looks_of(plan, many):
+    """For each of so many numbers whether a plan has a next of it that looks."""
+    nexts = plan[1]
+    return [looks(term) for term in nexts] + [False] * (many - len(nexts))
+
+
+def reach_of(looking, near, goes):
+    """The reach of each seat's levels: by what nexts look, for each plan, and by the neighbours of each seat."""
+    far = [0] * len(goes)
+    told = [far]
+    for at in range(len(looking[0])):
+        above = []
+        for seat, number in enumerate(goes):
+            most = far[seat]
+            if looking[number][at]:
+                for other in near[seat]:
+                    if far[other] >= most:
+                        most = far[other] + 1
+            above.append(most)
+        far = above
+        told.append(far)
+    return tuple(zip(*told))
 
 
 def levels_reach(plans, web, goes):
     """The reach of each seat's levels, of what surely are plans, a web and goes of it."""
-    far = [0] * web[0]
-    told = [far]
-    for at in range(wide(plans) - 1):
-        far = [reach_above(plans, web, goes, far, at, seat) for seat in range(web[0])]
-        told.append(far)
-    return tuple([tuple([made[seat] for made in told]) for seat in range(web[0])])
+    looking = [looks_of(plan, wide(plans) - 1) for plan in plans]
+    return reach_of(looking, all_beside(web), goes)
 
 
 def reach(plans, web, goes):

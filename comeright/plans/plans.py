@@ -1,7 +1,6 @@
 """Plans: a first and nexts; rows of plans."""
 
 from comeright.errors import NoPlan, NoPlans
-from comeright.kinds import is_row
 from comeright.plans.terms import is_first, is_next, looks
 
 MOST_ROUNDS = 6
@@ -10,17 +9,25 @@ MOST_PLANS = 3
 
 def is_plan(thing):
     """Whether it is a plan."""
-    if not is_row(thing, 2, 2):
+    if type(thing) is not tuple or len(thing) != 2:
         return False
     first, nexts = thing
-    if not is_first(first) or not is_row(nexts, 0, MOST_ROUNDS):
+    if type(nexts) is not tuple or len(nexts) > MOST_ROUNDS or not is_first(first):
         return False
-    return all([is_next(term) for term in nexts])
+    for term in nexts:
+        if not is_next(term):
+            return False
+    return True
 
 
 def is_plans(thing):
     """Whether it is a row of one to three plans."""
-    return is_row(thing, 1, MOST_PLANS) and all([is_plan(plan) for plan in thing])
+    if type(thing) is not tuple or not 1 <= len(thing) <= MOST_PLANS:
+        return False
+    for plan in thing:
+        if not is_plan(plan):
+            return False
+    return True
 
 
 def need_plan(plan):
@@ -37,13 +44,11 @@ def need_plans(plans):
 
 def wide(plans):
     """The width of what surely are plans."""
-    return 1 + max([len(nexts) for first, nexts in plans])
-
-
-def does_next_look(plan, at):
-    """Whether a plan has a next of this number, and it looks."""
-    nexts = plan[1]
-    return at < len(nexts) and looks(nexts[at])
+    most = 0
+    for _, nexts in plans:
+        if len(nexts) > most:
+            most = len(nexts)
+    return 1 + most
 
 
 def rounds(plan):
@@ -61,4 +66,4 @@ def width(plans):
 def looking(plan):
     """The rising numbers of the nexts of a plan that look."""
     need_plan(plan)
-    return tuple([at for at in range(len(plan[1])) if does_next_look(plan, at)])
+    return tuple([at for at, term in enumerate(plan[1]) if looks(term)])

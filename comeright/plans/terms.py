@@ -7,10 +7,14 @@ WORTHS = 997
 MOST_TERMS = 40
 MOST_WITHIN = 5
 MOST_HEAP = 11
-BARE = ("word", "own", "ties", "sum", "least", "most")
+# More than a term may have in it: what is counted so is none.
+NO_TERM = MOST_TERMS + 1
+# What a first and a next have in them besides worths: the terms of one word, and those of a word and a worth.
+BARE_OF_FIRST = ("word", "ties")
+PAIR_OF_FIRST = ()
+BARE_OF_NEXT = ("own", "ties", "least", "most", "sum")
+PAIR_OF_NEXT = ("many",)
 OF_HEAP = ("sum", "least", "most", "many")
-OF_NEXT = ("own", "sum", "least", "most", "many")
-OF_FIRST = ("word",)
 
 
 def plus(one, two):
@@ -80,57 +84,52 @@ def is_worth(thing):
     return is_below(thing, WORTHS)
 
 
-def is_leaf(thing):
-    """Whether it is a term that has no other terms in it."""
-    if is_row(thing, 1, 1):
-        return thing[0] in BARE
-    if is_row(thing, 2, 2):
-        return thing[0] == "many" and is_worth(thing[1])
+def is_leaf(thing, bare, pair):
+    """Whether it is a term of these words that has no other terms in it."""
+    if type(thing) is tuple:
+        if len(thing) == 1:
+            return thing[0] in bare
+        return len(thing) == 2 and thing[0] in pair and is_worth(thing[1])
     return is_worth(thing)
 
 
-def is_branch(thing):
-    """Whether it has the form of an op or an if: its parts may be anything."""
+def count_terms(thing, bare, pair, deep):
+    """How many terms are in a row of three or more; too many where it is no term of these words, or too deep."""
+    # Plans are asked for often: so a leaf is looked at in the loop, and only what has terms in it in a call of its own.
+    many = len(thing)
+    head = thing[0]
     # Only a text is looked up in OPS: a list there would be an error of Python's own.
-    if not is_row(thing, 3, 4) or type(thing[0]) is not str:
-        return False
-    if len(thing) == 4:
-        return thing[0] == "if"
-    return thing[0] in OPS
-
-
-def count_terms(thing, deep):
-    """How many terms are in a term, itself too; 0 of none, or of one with more than deep branches in one another."""
-    if is_leaf(thing):
-        return 1
-    if deep == 0 or not is_branch(thing):
-        return 0
-    counts = [count_terms(part, deep - 1) for part in thing[1:]]
-    if 0 in counts:
-        return 0
-    return 1 + sum(counts)
-
-
-def is_term(thing):
-    """Whether it is a term."""
-    return 1 <= count_terms(thing, MOST_WITHIN) <= MOST_TERMS
-
-
-def has_any(term, heads):
-    """Whether one of these words is in what surely is a term."""
-    if type(term) is int:
-        return False
-    return term[0] in heads or any([has_any(part, heads) for part in term[1:]])
+    if deep == 0 or many == 3 and (type(head) is not str or head not in OPS):
+        return NO_TERM
+    if many > 3 and (many > 4 or head != "if"):
+        return NO_TERM
+    for part in thing[1:]:
+        if type(part) is tuple:
+            size = len(part)
+            if size == 1:
+                if part[0] not in bare:
+                    return NO_TERM
+            elif size > 2:
+                many += count_terms(part, bare, pair, deep - 1) - 1
+            elif size == 0 or part[0] not in pair or not is_worth(part[1]):
+                return NO_TERM
+        elif type(part) is not int or not 0 <= part < WORTHS:
+            return NO_TERM
+    return many
 
 
 def is_first(thing):
     """Whether it is a first: a term of a word and of how many neighbours there are."""
-    return is_term(thing) and not has_any(thing, OF_NEXT)
+    if type(thing) is tuple and len(thing) > 2:
+        return count_terms(thing, BARE_OF_FIRST, PAIR_OF_FIRST, MOST_WITHIN) <= MOST_TERMS
+    return is_leaf(thing, BARE_OF_FIRST, PAIR_OF_FIRST)
 
 
 def is_next(thing):
     """Whether it is a next: a term without word."""
-    return is_term(thing) and not has_any(thing, OF_FIRST)
+    if type(thing) is tuple and len(thing) > 2:
+        return count_terms(thing, BARE_OF_NEXT, PAIR_OF_NEXT, MOST_WITHIN) <= MOST_TERMS
+    return is_leaf(thing, BARE_OF_NEXT, PAIR_OF_NEXT)
 
 
 def need_term(term):
@@ -141,35 +140,38 @@ def need_term(term):
 
 def looks(term):
     """Whether what surely is a term has something of the neighbours' worths in it."""
-    return has_any(term, OF_HEAP)
+    if type(term) is int:
+        return False
+    return term[0] in OF_HEAP or any([looks(part) for part in term[1:]])
 
 
 def bare_worth(word, worth, heap):
     """What a term of one word comes to."""
+    if word == "own" or word == "word":
+        return worth
     if word == "ties":
         return len(heap)
+    if len(heap) == 0:
+        return 0
     if word == "sum":
         return sum(heap) % WORTHS
-    if word == "least":
-        return min(heap, default=0)
-    if word == "most":
-        return max(heap, default=0)
-    return worth
+    return min(heap) if word == "least" else max(heap)
 
 
 def worth_of(term, worth, heap):
     """What a term comes to, of what surely are a term, a worth, and a heap of as many worths as neighbours."""
     if type(term) is int:
         return term
-    if len(term) == 1:
+    size = len(term)
+    if size == 1:
         return bare_worth(term[0], worth, heap)
-    if term[0] == "many":
+    if size == 2:
         return heap.count(term[1])
-    if term[0] == "if":
-        chosen = term[3] if worth_of(term[1], worth, heap) == 0 else term[2]
-        return worth_of(chosen, worth, heap)
-    action = OPS[term[0]]
-    return action(worth_of(term[1], worth, heap), worth_of(term[2], worth, heap))
+    if size == 3:
+        action = OPS[term[0]]
+        return action(worth_of(term[1], worth, heap), worth_of(term[2], worth, heap))
+    chosen = term[3] if worth_of(term[1], worth, heap) == 0 else term[2]
+    return worth_of(chosen, worth, heap)
 
 
 def does_look(term):

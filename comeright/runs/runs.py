@@ -3,8 +3,9 @@
 from comeright.errors import NoNumber, NoRun
 from comeright.kinds import is_below
 from comeright.scenes.deeds import seats_changed
-from comeright.scenes.doings import after
+from comeright.scenes.doings import do
 from comeright.scenes.forms import fits
+from comeright.scenes.hands import Hands
 from comeright.scenes.scenes import need_scene
 
 MOST_DEEDS = 2000
@@ -14,10 +15,13 @@ def fault(scene, thing):
     """None of a run of what surely is a scene; of all else the number that NoRun bears."""
     if type(thing) is not tuple:
         return 0
+    hands = Hands(scene)
     for at, deed in enumerate(thing[:MOST_DEEDS]):
-        if not fits(scene, deed):
+        if not fits(hands, deed):
             return at
-        scene = after(scene, deed)
+        # What is a deed hangs on no worth of a row: so none need be reckoned.
+        if deed[0] != "reckon":
+            do(hands, deed)
     if len(thing) > MOST_DEEDS:
         return MOST_DEEDS
     return None
@@ -39,17 +43,19 @@ def need_moment(deeds, moment):
 
 def after_all(scene, deeds):
     """The scene behind what surely is a run of it."""
+    hands = Hands(scene)
     for deed in deeds:
-        scene = after(scene, deed)
-    return scene
+        do(hands, deed)
+    return hands.as_scene()
 
 
 def last_change_of(deeds, apart):
     """The moment behind the last deed that changes or strikes a seat that isn't apart; 0 of none."""
     told = 0
     for at, deed in enumerate(deeds):
-        if not all([seat in apart for seat in seats_changed(deed)]):
-            told = at + 1
+        for seat in seats_changed(deed):
+            if seat not in apart:
+                told = at + 1
     return told
 
 

@@ -1,8 +1,10 @@
 """Waves: stretches of a run in which all that aren't apart reckon, and hear of what others reckoned in them."""
 
 from comeright.kinds import is_rising, is_row
-from comeright.runs.marks import first_marks, move_marks
-from comeright.runs.runs import after_all, last_change_of, need_moment, need_run
+from comeright.runs.marks import brings, marked
+from comeright.runs.runs import last_change_of, need_moment, need_run
+from comeright.scenes.doings import do
+from comeright.scenes.hands import Hands
 from comeright.scenes.scenes import WEB
 from comeright.webs.webs import need_seats, pairs
 
@@ -19,17 +21,18 @@ def wants(web, apart):
 def gifts(scene, deeds):
     """For each deed None, or (s, u, number): of wants (s, u) it gives what hangs on the reckon of that number."""
     told = []
-    marks = first_marks(scene, NEVER)
-    reckons = [NEVER] * scene[WEB][0]
+    # A row is marked by the reckon that made it: by none where it was struck since.
+    hands = Hands(marked(scene, NEVER))
     for at, deed in enumerate(deeds):
-        seat = deed[1]
-        heard = move_marks(marks, deed, reckons[seat], NEVER)
-        if deed[0] == "reckon":
-            reckons[seat] = at
+        word, seat = deed[0], deed[1]
+        if word == "reckon":
+            hands.rows[seat] = at
             told.append((seat, seat, at))
-        elif deed[0] == "hear":
-            told.append((deed[2], seat, heard))
+        elif word == "hear":
+            do(hands, deed)
+            told.append((deed[2], seat, hands.copies[hands.place(seat, deed[2])][2]))
         else:
+            do(hands, brings(deed, NEVER))
             told.append(None)
     return told
 
@@ -58,7 +61,14 @@ def all_ends(given, wanted, begin):
 
 def wants_at(scene, deeds, moment, apart):
     """What a wave has to have that begins at a moment, in the web as it is then."""
-    return wants(after_all(scene, deeds[:moment])[WEB], apart)
+    many, ties = scene[WEB]
+    ties = list(ties)
+    for deed in deeds[:moment]:
+        if deed[0] == "put":
+            ties.append((deed[1], deed[2]))
+        if deed[0] == "cut":
+            ties.remove((deed[1], deed[2]))
+    return wants((many, tuple(sorted(ties))), apart)
 
 
 def is_wave(scene, deeds, begin, end, *, apart=()):

@@ -1,8 +1,9 @@
 """Deeds of a scene: which there are, which are changes, what is behind them."""
 
 from comeright.errors import NoDeed
-from comeright.scenes.doings import after
+from comeright.scenes.doings import do
 from comeright.scenes.forms import fits
+from comeright.scenes.hands import Hands
 from comeright.scenes.scenes import need_scene
 
 CHANGES_ONE = ("word", "goes", "strike")
@@ -10,10 +11,12 @@ CHANGES_TWO = ("put", "cut")
 
 
 def need_deed(scene, deed):
-    """Refuse what is no scene, then what is no deed of it."""
+    """The hands of a scene, for a deed of it; refuse what is no scene, then what is no deed of it."""
     need_scene(scene)
-    if not fits(scene, deed):
+    hands = Hands(scene)
+    if not fits(hands, deed):
         raise NoDeed("no deed of this scene")
+    return hands
 
 
 def seats_changed(deed):
@@ -28,7 +31,7 @@ def seats_changed(deed):
 def is_deed(scene, thing):
     """Whether it is a deed of a scene."""
     need_scene(scene)
-    return fits(scene, thing)
+    return fits(Hands(scene), thing)
 
 
 def is_change(scene, deed):
@@ -45,5 +48,6 @@ def changed(scene, deed):
 
 def done(scene, deed):
     """The scene behind a deed of it."""
-    need_deed(scene, deed)
-    return after(scene, deed)
+    hands = need_deed(scene, deed)
+    do(hands, deed)
+    return hands.as_scene()

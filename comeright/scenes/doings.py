@@ -1,125 +1,89 @@
-"""What deeds do: each def here takes a scene and a deed of it, and tells the scene behind it."""
+"""What deeds do: each def here takes hands and a deed of the scene that they are of, and changes the hands."""
 
-from comeright.kinds import replaced
-from comeright.plain.plain import first_worth, next_worth
-from comeright.scenes.scenes import COPIES, GOES, PLANS, ROAD, ROADS, ROWS, WEB, WORDS, entry_of
-from comeright.webs.webs import beside
+from comeright.scenes.scenes import ROAD
 
 
-def with_entries(entries, fresh):
-    """The copies, or the roads, with what a dict has for two neighbours in their entry."""
-    return tuple([(first, second, fresh.get((first, second), stood)) for first, second, stood in entries])
-
-
-def with_letters(scene, seat, other, letters):
-    """The scene with these letters on the road from a seat to another one."""
-    return replaced(scene, ROADS, with_entries(scene[ROADS], {(seat, other): letters}))
-
-
-def with_row(scene, seat, row):
-    """The scene with this row of a seat."""
-    return replaced(scene, ROWS, replaced(scene[ROWS], seat, row))
-
-
-def with_copy(scene, seat, other, row):
-    """The scene with this as what a seat has of another one."""
-    return replaced(scene, COPIES, with_entries(scene[COPIES], {(seat, other): row}))
-
-
-def reckoned(scene, seat):
-    """The row that a seat's reckon makes."""
-    plan = scene[PLANS][scene[GOES][seat]]
-    held = [copy for first, second, copy in scene[COPIES] if first == seat]
-    row = [first_worth(plan, scene[WORDS][seat], len(held))]
-    for at in range(len(scene[ROWS][seat]) - 1):
-        row.append(next_worth(plan, at, row[at], tuple([copy[at] for copy in held])))
-    return tuple(row)
-
-
-def do_reckon(scene, deed):
+def do_reckon(hands, deed):
     """The row of the seat is made anew."""
-    return with_row(scene, deed[1], reckoned(scene, deed[1]))
+    hands.rows[deed[1]] = hands.reckoned(deed[1])
 
 
-def do_send(scene, deed):
+def do_send(hands, deed):
     """The seat's row comes last on the road; on a full one it is lost."""
     _, seat, other = deed
-    letters = entry_of(scene[ROADS], seat, other)
-    if len(letters) == ROAD:
-        return scene
-    return with_letters(scene, seat, other, letters + (scene[ROWS][seat],))
+    at = hands.place(seat, other)
+    letters = hands.roads[at][2]
+    if len(letters) < ROAD:
+        hands.roads[at] = (seat, other, letters + (hands.rows[seat],))
 
 
-def do_hear(scene, deed):
+def do_hear(hands, deed):
     """The first letter is taken off, and is what the seat has of its neighbour."""
     _, seat, other = deed
-    letters = entry_of(scene[ROADS], other, seat)
-    return with_copy(with_letters(scene, other, seat, letters[1:]), seat, other, letters[0])
+    at = hands.place(other, seat)
+    letters = hands.roads[at][2]
+    hands.roads[at] = (other, seat, letters[1:])
+    hands.copies[hands.place(seat, other)] = (seat, other, letters[0])
 
 
-def do_lose(scene, deed):
+def do_lose(hands, deed):
     """The letter is taken off."""
-    _, seat, other, at = deed
-    letters = entry_of(scene[ROADS], seat, other)
-    return with_letters(scene, seat, other, letters[:at] + letters[at + 1:])
+    _, seat, other, number = deed
+    at = hands.place(seat, other)
+    letters = hands.roads[at][2]
+    hands.roads[at] = (seat, other, letters[:number] + letters[number + 1:])
 
 
-def do_double(scene, deed):
+def do_double(hands, deed):
     """The letter stands twice."""
-    _, seat, other, at = deed
-    letters = entry_of(scene[ROADS], seat, other)
-    return with_letters(scene, seat, other, letters[:at + 1] + letters[at:])
+    _, seat, other, number = deed
+    at = hands.place(seat, other)
+    letters = hands.roads[at][2]
+    hands.roads[at] = (seat, other, letters[:number + 1] + letters[number:])
 
 
-def do_word(scene, deed):
+def do_word(hands, deed):
     """The word of the seat is this one."""
-    _, seat, word = deed
-    return replaced(scene, WORDS, replaced(scene[WORDS], seat, word))
+    hands.words[deed[1]] = deed[2]
 
 
-def do_goes(scene, deed):
+def do_goes(hands, deed):
     """The seat goes by this plan."""
-    _, seat, number = deed
-    return replaced(scene, GOES, replaced(scene[GOES], seat, number))
+    hands.goes[deed[1]] = deed[2]
 
 
-def do_put(scene, deed):
+def do_put(hands, deed):
     """The seats have a tie, with these copies and letters."""
     _, seat, other, brought = deed
     here, there, on, back = brought
-    plans, web, words, goes, rows, copies, roads = scene
-    ties = tuple(sorted(list(web[1]) + [(seat, other)]))
-    copies = tuple(sorted(list(copies) + [(seat, other, here), (other, seat, there)]))
-    roads = tuple(sorted(list(roads) + [(seat, other, on), (other, seat, back)]))
-    return (plans, (web[0], ties), words, goes, rows, copies, roads)
+    # No two entries are of the same seats: so sorting asks nothing of what stands in them.
+    copies = sorted(hands.copies + [(seat, other, here), (other, seat, there)])
+    roads = sorted(hands.roads + [(seat, other, on), (other, seat, back)])
+    hands.tie(tuple(sorted(hands.ties + ((seat, other),))), copies, roads)
 
 
 def without(entries, seat, other):
     """The copies, or the roads, but those of these two, either way."""
-    return tuple([entry for entry in entries if (entry[0], entry[1]) not in ((seat, other), (other, seat))])
+    return [entry for entry in entries if (entry[0], entry[1]) not in ((seat, other), (other, seat))]
 
 
-def do_cut(scene, deed):
+def do_cut(hands, deed):
     """The tie of the seats, their copies and roads are gone."""
     _, seat, other = deed
-    plans, web, words, goes, rows, copies, roads = scene
-    ties = tuple([tie for tie in web[1] if tie != (seat, other)])
-    return (plans, (web[0], ties), words, goes, rows, without(copies, seat, other), without(roads, seat, other))
+    ties = tuple([tie for tie in hands.ties if tie != (seat, other)])
+    hands.tie(ties, without(hands.copies, seat, other), without(hands.roads, seat, other))
 
 
-def do_strike(scene, deed):
+def do_strike(hands, deed):
     """The seat has this row; for its neighbours, as they rise, these copies, and these letters to and from them."""
     _, seat, struck = deed
     row, copies, out, into = struck
-    fresh_copies = {}
-    fresh_roads = {}
-    for at, other in enumerate(beside(scene[WEB], seat)):
-        fresh_copies[(seat, other)] = copies[at]
-        fresh_roads[(seat, other)] = out[at]
-        fresh_roads[(other, seat)] = into[at]
-    scene = replaced(scene, COPIES, with_entries(scene[COPIES], fresh_copies))
-    scene = replaced(scene, ROADS, with_entries(scene[ROADS], fresh_roads))
-    return with_row(scene, seat, row)
+    hands.rows[seat] = row
+    start = hands.starts[seat]
+    for at, other in enumerate(hands.near[seat]):
+        hands.copies[start + at] = (seat, other, copies[at])
+        hands.roads[start + at] = (seat, other, out[at])
+        hands.roads[hands.place(other, seat)] = (other, seat, into[at])
 
 
 DOINGS = {
@@ -136,7 +100,7 @@ DOINGS = {
 }
 
 
-def after(scene, deed):
-    """The scene behind what surely is a deed of it."""
+def do(hands, deed):
+    """Do what surely is a deed of the scene that hands are of."""
     doing = DOINGS[deed[0]]
-    return doing(scene, deed)
+    doing(hands, deed)

@@ -1,85 +1,76 @@
-"""What forms deeds have, and of which scenes they are."""
+"""What forms deeds have, and whether they are of the scene that hands are of."""
 
 from comeright.kinds import is_below, is_row
-from comeright.plans.plans import wide
 from comeright.plans.terms import is_worth
-from comeright.scenes.scenes import PLANS, ROAD, ROADS, WEB, entry_of, is_letters, is_levels
-from comeright.webs.webs import are_neighbours, beside, is_seat
+from comeright.scenes.scenes import ROAD, are_levels, is_letters
 
 
-def fits_reckon(scene, deed):
+def fits_reckon(hands, deed):
     """("reckon", s): of any seat."""
-    return is_seat(scene[WEB], deed[1])
+    return hands.is_seat(deed[1])
 
 
-def fits_send(scene, deed):
+def fits_send(hands, deed):
     """("send", s, u): of neighbours."""
-    return are_neighbours(scene[WEB], deed[1], deed[2])
+    return hands.are_near(deed[1], deed[2])
 
 
-def fits_hear(scene, deed):
+def fits_hear(hands, deed):
     """("hear", s, u): of neighbours with a letter on the road from u to s."""
-    if not are_neighbours(scene[WEB], deed[1], deed[2]):
-        return False
-    return len(entry_of(scene[ROADS], deed[2], deed[1])) > 0
+    return hands.are_near(deed[1], deed[2]) and hands.letters(deed[2], deed[1]) != ()
 
 
-def fits_lose(scene, deed):
+def fits_lose(hands, deed):
     """("lose", s, u, k): of a letter on the road from s to u."""
-    if not are_neighbours(scene[WEB], deed[1], deed[2]):
-        return False
-    return is_below(deed[3], len(entry_of(scene[ROADS], deed[1], deed[2])))
+    return hands.are_near(deed[1], deed[2]) and is_below(deed[3], len(hands.letters(deed[1], deed[2])))
 
 
-def fits_double(scene, deed):
+def fits_double(hands, deed):
     """("double", s, u, k): of a letter on a road that isn't full."""
-    return fits_lose(scene, deed) and len(entry_of(scene[ROADS], deed[1], deed[2])) < ROAD
+    return fits_lose(hands, deed) and len(hands.letters(deed[1], deed[2])) < ROAD
 
 
-def fits_word(scene, deed):
+def fits_word(hands, deed):
     """("word", s, w): of any seat and any worth."""
-    return is_seat(scene[WEB], deed[1]) and is_worth(deed[2])
+    return hands.is_seat(deed[1]) and is_worth(deed[2])
 
 
-def fits_goes(scene, deed):
+def fits_goes(hands, deed):
     """("goes", s, n): of any seat and any plan."""
-    return is_seat(scene[WEB], deed[1]) and is_below(deed[2], len(scene[PLANS]))
+    return hands.is_seat(deed[1]) and is_below(deed[2], len(hands.plans))
 
 
-def are_rising_seats(scene, deed):
+def are_rising_seats(hands, deed):
     """Whether a deed has two seats, the lesser ahead."""
-    web = scene[WEB]
-    return is_seat(web, deed[1]) and is_seat(web, deed[2]) and deed[1] < deed[2]
+    return hands.is_seat(deed[1]) and hands.is_seat(deed[2]) and deed[1] < deed[2]
 
 
-def fits_put(scene, deed):
+def fits_put(hands, deed):
     """("put", a, b, (here, there, on, back)): of seats without a tie."""
-    if not are_rising_seats(scene, deed) or are_neighbours(scene[WEB], deed[1], deed[2]):
+    if not are_rising_seats(hands, deed) or hands.are_near(deed[1], deed[2]):
         return False
     if not is_row(deed[3], 4, 4):
         return False
     here, there, on, back = deed[3]
-    many = wide(scene[PLANS])
-    return is_levels(many, here) and is_levels(many, there) and is_letters(many, on) and is_letters(many, back)
+    return are_levels(hands.wide, (here, there)) and is_letters(hands.wide, on) and is_letters(hands.wide, back)
 
 
-def fits_cut(scene, deed):
+def fits_cut(hands, deed):
     """("cut", a, b): of seats with a tie."""
-    return are_rising_seats(scene, deed) and are_neighbours(scene[WEB], deed[1], deed[2])
+    return are_rising_seats(hands, deed) and hands.are_near(deed[1], deed[2])
 
 
-def fits_strike(scene, deed):
+def fits_strike(hands, deed):
     """("strike", s, (row, copies, out, into)): of any seat, a copy and two roads for each neighbour."""
-    if not is_seat(scene[WEB], deed[1]) or not is_row(deed[2], 4, 4):
+    if not hands.is_seat(deed[1]) or not is_row(deed[2], 4, 4):
         return False
     row, copies, out, into = deed[2]
-    ties = len(beside(scene[WEB], deed[1]))
+    ties = len(hands.near[deed[1]])
     if not is_row(copies, ties, ties) or not is_row(out, ties, ties) or not is_row(into, ties, ties):
         return False
-    many = wide(scene[PLANS])
-    if not is_levels(many, row) or not all([is_levels(many, copy) for copy in copies]):
+    if not are_levels(hands.wide, (row,) + copies):
         return False
-    return all([is_letters(many, letters) for letters in out + into])
+    return all([is_letters(hands.wide, letters) for letters in out + into])
 
 
 SIZES = {
@@ -108,17 +99,13 @@ FITS = {
 }
 
 
-def has_form(thing):
-    """Whether it is a row of a deed's word and as many parts as such a deed has."""
+def fits(hands, thing):
+    """Whether it is a deed of the scene that hands are of."""
+    if type(thing) is not tuple or len(thing) < 2:
+        return False
+    word = thing[0]
     # Only a text is looked up in SIZES: a list there would be an error of Python's own.
-    if not is_row(thing, 2, 4) or type(thing[0]) is not str or thing[0] not in SIZES:
+    if type(word) is not str or word not in SIZES or len(thing) != SIZES[word]:
         return False
-    return len(thing) == SIZES[thing[0]]
-
-
-def fits(scene, thing):
-    """Whether it is a deed of what surely is a scene."""
-    if not has_form(thing):
-        return False
-    fitting = FITS[thing[0]]
-    return fitting(scene, thing)
+    fitting = FITS[word]
+    return fitting(hands, thing)

@@ -4,8 +4,8 @@ from comeright.errors import NoScene, NoSeat
 from comeright.kinds import is_row
 from comeright.plain.plain import are_goes, are_words, need_run_of, plain_levels, told_levels
 from comeright.plans.plans import is_plans, wide
-from comeright.plans.terms import WORTHS, is_worth
-from comeright.webs.webs import are_neighbours, is_web, need_seat, pairs
+from comeright.plans.terms import WORTHS
+from comeright.webs.webs import all_beside, are_neighbours, is_web, need_seat, pairs
 
 ROAD = 8
 # The places of a scene's parts.
@@ -19,52 +19,79 @@ ROADS = 6
 PARTS = 7
 
 
-def is_levels(many, thing):
-    """Whether it is a row of so many worths."""
-    return is_row(thing, many, many) and all([is_worth(worth) for worth in thing])
+def are_levels(many, rows):
+    """Whether each of a row of things is a row of so many worths."""
+    if [1 for row in rows if type(row) is not tuple or len(row) != many]:
+        return False
+    top = WORTHS
+    return not [1 for row in rows for worth in row if type(worth) is not int or worth < 0 or worth >= top]
 
 
 def is_letters(many, thing):
     """Whether it is a row of letters, of so many worths each, that a road can hold."""
-    return is_row(thing, 0, ROAD) and all([is_levels(many, letter) for letter in thing])
+    return is_row(thing, 0, ROAD) and are_levels(many, thing)
 
 
-def are_rows(web, many, thing):
-    """Whether it is a row of so many worths for each seat of a web."""
-    return is_row(thing, web[0], web[0]) and all([is_levels(many, row) for row in thing])
+def held_in(web, rows, copies, roads):
+    """None where these are no copies and roads of a web, whatever stands in them; else what is to be looked at in them.
+
+    That is (alike, unlike): copies and letters that are alike to a row of the seat whose they are, but may have truths
+    in them where that has 0 or 1, and those that are none of these rows. All others surely are well.
+    """
+    sly = [0 in row or 1 in row for row in rows]
+    alike, unlike = [], []
+    at = 0
+    for seat, others in enumerate(all_beside(web)):
+        for other in others:
+            copy, road = copies[at], roads[at]
+            at += 1
+            if type(copy) is not tuple or len(copy) != 3 or type(road) is not tuple or len(road) != 3:
+                return None
+            one, two, row = copy
+            start, end, letters = road
+            if one != seat or two != other or start != seat or end != other or type(letters) is not tuple:
+                return None
+            # A truth is alike to 0 or 1.
+            if type(one) is not int or type(two) is not int or type(start) is not int or type(end) is not int:
+                return None
+            if row != rows[other]:
+                unlike.append(row)
+            elif sly[other]:
+                alike.append(row)
+            if letters != ():
+                if len(letters) > ROAD:
+                    return None
+                if letters[0] != rows[seat] or letters.count(rows[seat]) < len(letters):
+                    unlike.extend(letters)
+                elif sly[seat]:
+                    alike.extend(letters)
+    return (alike, unlike)
 
 
-def is_entry(thing):
-    """Whether it is a row of two whole numbers and anything."""
-    return is_row(thing, 3, 3) and type(thing[0]) is int and type(thing[1]) is int
-
-
-def are_entries(web, thing):
-    """Whether it is a rising row of (seat, neighbour, anything), for each two neighbours of a web just one."""
-    if type(thing) is not tuple or not all([is_entry(entry) for entry in thing]):
+def are_held(web, many, rows, copies, roads):
+    """Whether these are the rows, copies and roads of a scene of a web, rows of so many worths in all of them."""
+    if type(rows) is not tuple or len(rows) != web[0] or not are_levels(many, rows):
         return False
-    return tuple([(entry[0], entry[1]) for entry in thing]) == pairs(web)
-
-
-def are_copies(web, many, thing):
-    """Whether it is the copies of a scene of a web, each of so many worths."""
-    return are_entries(web, thing) and all([is_levels(many, entry[2]) for entry in thing])
-
-
-def are_roads(web, many, thing):
-    """Whether it is the roads of a scene of a web, letters of so many worths on them."""
-    return are_entries(web, thing) and all([is_letters(many, entry[2]) for entry in thing])
+    ways = 2 * len(web[1])
+    if type(copies) is not tuple or len(copies) != ways or type(roads) is not tuple or len(roads) != ways:
+        return False
+    if ways == 0:
+        return True
+    held = held_in(web, rows, copies, roads)
+    if held is None:
+        return False
+    alike, unlike = held
+    return not [1 for row in alike for worth in row if type(worth) is not int] and are_levels(many, unlike)
 
 
 def is_scene(thing):
     """Whether it is a scene."""
-    if not is_row(thing, PARTS, PARTS):
+    if type(thing) is not tuple or len(thing) != PARTS:
         return False
     plans, web, words, goes, rows, copies, roads = thing
     if not is_plans(plans) or not is_web(web) or not are_words(web, words) or not are_goes(plans, web, goes):
         return False
-    many = wide(plans)
-    return are_rows(web, many, rows) and are_copies(web, many, copies) and are_roads(web, many, roads)
+    return are_held(web, wide(plans), rows, copies, roads)
 
 
 def need_scene(scene):
@@ -90,8 +117,9 @@ def entry_of(entries, seat, other):
 
 def scene_of_rows(plans, web, words, goes, rows):
     """The scene in which these are the rows, each copy is what the neighbour has, and there are no letters."""
-    copies = tuple([(seat, other, rows[other]) for seat, other in pairs(web)])
-    roads = tuple([(seat, other, ()) for seat, other in pairs(web)])
+    near = pairs(web)
+    copies = tuple([(seat, other, rows[other]) for seat, other in near])
+    roads = tuple([(seat, other, ()) for seat, other in near])
     return (plans, web, words, goes, rows, copies, roads)
 
 
@@ -123,15 +151,18 @@ def right_rows(scene):
     return plain_levels(scene[PLANS], scene[WEB], scene[WORDS], scene[GOES])
 
 
+def stands_right(scene):
+    """Whether all rows, copies and letters of what surely is a scene are the plain run's of whose they are."""
+    right = right_rows(scene)
+    if scene[ROWS] != right or [1 for _, other, copy in scene[COPIES] if copy != right[other]]:
+        return False
+    return not [1 for seat, _, letters in scene[ROADS] if letters.count(right[seat]) < len(letters)]
+
+
 def is_right(scene):
     """Whether all rows, copies and letters of a scene are the plain run's levels of whose they are."""
     need_scene(scene)
-    right = right_rows(scene)
-    if scene[ROWS] != right:
-        return False
-    if not all([row == right[other] for seat, other, row in scene[COPIES]]):
-        return False
-    return all([letter == right[seat] for seat, other, letters in scene[ROADS] for letter in letters])
+    return stands_right(scene)
 
 
 def plain_of(scene):

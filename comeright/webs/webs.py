@@ -1,24 +1,34 @@
 """Webs of seats and ties; neighbours and steps in them."""
 
 from comeright.errors import NoNumber, NoSeat, NoWeb
-from comeright.kinds import is_below, is_rising, is_row
+from comeright.kinds import is_below
 
 MOST_SEATS = 12
 
 
-def is_tie(many, thing):
-    """Whether it is a pair of two of so many seats, the lesser ahead."""
-    return is_row(thing, 2, 2) and is_below(thing[1], many) and is_below(thing[0], thing[1])
-
-
 def is_web(thing):
     """Whether it is a web."""
-    if not is_row(thing, 2, 2):
+    if type(thing) is not tuple or len(thing) != 2:
         return False
     many, ties = thing
-    if not is_below(many, MOST_SEATS + 1) or many == 0 or type(ties) is not tuple:
+    if type(many) is not int or not 1 <= many <= MOST_SEATS or type(ties) is not tuple:
         return False
-    return all([is_tie(many, tie) for tie in ties]) and is_rising(ties)
+    # Webs are asked for often: so all of a tie is looked at in one go, and no part of it twice.
+    low_ahead = high_ahead = 0
+    for tie in ties:
+        if type(tie) is not tuple or len(tie) != 2:
+            return False
+        low, high = tie
+        if type(low) is not int or type(high) is not int:
+            return False
+        if low == low_ahead and high_ahead < high < many:
+            high_ahead = high
+        elif low_ahead < low < high < many:
+            low_ahead = low
+            high_ahead = high
+        else:
+            return False
+    return True
 
 
 def is_seat(web, thing):
@@ -28,7 +38,14 @@ def is_seat(web, thing):
 
 def is_seats(web, thing):
     """Whether it is a rising row of seats of a web, perhaps none."""
-    return type(thing) is tuple and all([is_seat(web, seat) for seat in thing]) and is_rising(thing)
+    if type(thing) is not tuple:
+        return False
+    ahead = -1
+    for seat in thing:
+        if type(seat) is not int or not ahead < seat < web[0]:
+            return False
+        ahead = seat
+    return True
 
 
 def need_web(web):
@@ -39,7 +56,7 @@ def need_web(web):
 
 def need_seat(web, seat):
     """Refuse what is no seat of a web."""
-    if not is_seat(web, seat):
+    if type(seat) is not int or not 0 <= seat < web[0]:
         raise NoSeat(seat)
 
 
@@ -52,9 +69,16 @@ def need_seats(web, seats):
 def beside(web, seat):
     """The rising neighbours of a seat, of what surely is a web and a seat of it."""
     # Ties rise: so those to lesser seats come ahead, and each of the two parts rises.
-    lesser = [low for low, high in web[1] if high == seat]
-    greater = [high for low, high in web[1] if low == seat]
-    return tuple(lesser + greater)
+    return tuple([low + high - seat for low, high in web[1] if low == seat or high == seat])
+
+
+def all_beside(web):
+    """For each seat the rising list of its neighbours, of what surely is a web."""
+    near = [[] for _ in range(web[0])]
+    for low, high in web[1]:
+        near[low].append(high)
+        near[high].append(low)
+    return near
 
 
 def are_neighbours(web, thing, other):
@@ -64,25 +88,25 @@ def are_neighbours(web, thing, other):
 
 def pairs(web):
     """The rising row of (seat, neighbour), for each seat and each of its neighbours."""
-    return tuple([(seat, other) for seat in range(web[0]) for other in beside(web, seat)])
+    return tuple([(seat, other) for seat, others in enumerate(all_beside(web)) for other in others])
 
 
 def steps_from(web, seats):
     """For each seat the fewest steps to one of these, or None, of what surely are seats of a web."""
-    told = [None] * web[0]
+    many = web[0]
+    told = [None] * many
     for seat in seats:
         told[seat] = 0
-    edge = list(seats)
-    far = 0
-    while len(edge) > 0:
-        far += 1
-        beyond = []
-        for seat in edge:
-            for other in beside(web, seat):
-                if told[other] is None:
-                    told[other] = far
-                    beyond.append(other)
-        edge = beyond
+    near = all_beside(web)
+    reached = list(seats)
+    at = 0
+    while at < len(reached) < many:
+        seat = reached[at]
+        at += 1
+        for other in near[seat]:
+            if told[other] is None:
+                told[other] = told[seat] + 1
+                reached.append(other)
     return tuple(told)
 
 
@@ -115,4 +139,4 @@ def within(web, seat, far):
     if type(far) is not int or far < 0:
         raise NoNumber(far)
     told = steps_from(web, (seat,))
-    return tuple([other for other in range(web[0]) if told[other] is not None and told[other] <= far])
+    return tuple([other for other, away in enumerate(told) if away is not None and away <= far])
