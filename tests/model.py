@@ -238,3 +238,175 @@ def all_waves(scene, deeds, apart):
         (begin, end) for begin in moments for end in moments
         if is_wave(webs[begin], deeds, listened, begin, end, apart)
     }
+
+
+class Sure:
+    """The numbers of sure levels, told word by word: sets of levels for each row, copy and letter."""
+
+    def __init__(self, scene, right):
+        self.model = Model(scene)
+        self.width = 1 + max(len(nexts) for _, nexts in scene[0])
+        start = self.width if right else 0
+        self.rows = {s: start for s in range(scene[1][0])}
+        self.copies = {(s, u): start for s, u, _ in scene[5]}
+        self.roads = {(s, u): [start] * len(letters) for s, u, letters in scene[6]}
+
+    def numbers(self):
+        return (
+            tuple(self.rows[s] for s in sorted(self.rows)),
+            tuple((s, u, self.copies[s, u]) for s, u in sorted(self.copies)),
+            tuple((s, u, tuple(self.roads[s, u])) for s, u in sorted(self.roads)),
+        )
+
+    def do(self, deed):
+        word = deed[0]
+        near = self.model.near(deed[1])
+        if word == "reckon":
+            nexts = self.model.plans[self.model.goes[deed[1]]][1]
+            sure = [True]
+            for i in range(self.width - 1):
+                seen = i >= len(nexts) or not looks(nexts[i]) or all(self.copies[deed[1], u] > i for u in near)
+                sure.append(sure[i] and seen)
+            self.rows[deed[1]] = sum(sure)
+        elif word == "send" and len(self.roads[deed[1], deed[2]]) < 8:
+            self.roads[deed[1], deed[2]].append(self.rows[deed[1]])
+        elif word == "hear":
+            self.copies[deed[1], deed[2]] = self.roads[deed[2], deed[1]].pop(0)
+        elif word == "lose":
+            del self.roads[deed[1], deed[2]][deed[3]]
+        elif word == "double":
+            self.roads[deed[1], deed[2]].insert(deed[3], self.roads[deed[1], deed[2]][deed[3]])
+        elif word == "put":
+            for pair, letters in (((deed[1], deed[2]), deed[3][2]), ((deed[2], deed[1]), deed[3][3])):
+                self.copies[pair] = 0
+                self.roads[pair] = [0] * len(letters)
+        elif word == "cut":
+            for pair in ((deed[1], deed[2]), (deed[2], deed[1])):
+                del self.copies[pair], self.roads[pair]
+        elif word == "strike":
+            self.rows[deed[1]] = 0
+            for k, u in enumerate(near):
+                self.copies[deed[1], u] = 0
+                self.roads[deed[1], u] = [0] * len(deed[2][2][k])
+                self.roads[u, deed[1]] = [0] * len(deed[2][3][k])
+        self.model.do(deed)
+        if word in ("word", "goes", "put", "cut"):
+            self.lessen(seats_of(deed))
+
+    def lessen(self, changed):
+        """Of each seat just those first levels stay sure that reach fewer steps than it is from each changed one."""
+        scene = self.model.scene()
+        steps = far(scene[1])
+        most = {}
+        for s in range(scene[1][0]):
+            away = [steps[s, c] for c in changed if steps[s, c] is not None]
+            levels = [i for i in range(self.width) if not away or reach(scene[0], scene[1], scene[3], s, i) < min(away)]
+            most[s] = len(levels)
+        self.rows = {s: min(k, most[s]) for s, k in self.rows.items()}
+        self.copies = {(s, u): min(k, most[u]) for (s, u), k in self.copies.items()}
+        self.roads = {(s, u): [min(k, most[s]) for k in row] for (s, u), row in self.roads.items()}
+
+
+def sure(scene, deeds, right):
+    told = Sure(scene, right)
+    for deed in deeds:
+        told.do(deed)
+    return told.numbers()
+
+
+def stamps_at(scene, deeds):
+    """Of each moment of a calm run (rows, copies): what deed made the row, and the row that a copy has."""
+    rows = {s: None for s in range(scene[1][0])}
+    copies = {(s, u): None for s, u, _ in scene[5]}
+    roads = {(s, u): [None] * len(letters) for s, u, letters in scene[6]}
+    told = [(dict(rows), dict(copies))]
+    for at, deed in enumerate(deeds):
+        if deed[0] == "reckon":
+            rows[deed[1]] = at
+        elif deed[0] == "send" and len(roads[deed[1:3]]) < 8:
+            roads[deed[1:3]].append(rows[deed[1]])
+        elif deed[0] == "hear":
+            copies[deed[1:3]] = roads[deed[2], deed[1]].pop(0)
+        elif deed[0] == "lose":
+            del roads[deed[1:3]][deed[3]]
+        elif deed[0] == "double":
+            roads[deed[1:3]].insert(deed[3], roads[deed[1:3]][deed[3]])
+        told.append((dict(rows), dict(copies)))
+    return told
+
+
+def is_ground(scene, deeds, seat, level, pairs):
+    """Whether a set of pairs is a ground, word by word."""
+    told = stamps_at(scene, deeds)
+    if (told[-1][0][seat], level) not in pairs:
+        return False
+    for k, i in pairs:
+        if type(k) is not int or not 0 <= k < len(deeds) or deeds[k][0] != "reckon":
+            return False
+        s = deeds[k][1]
+        nexts = scene[0][scene[3][s]][1]
+        if i > 0 and (k, i - 1) not in pairs:
+            return False
+        if 0 < i <= len(nexts) and looks(nexts[i - 1]):
+            if any((told[k][1][s, u], i - 1) not in pairs for u in near(scene[1], s)):
+                return False
+    return True
+
+
+def agrees(scene, seat):
+    model = Model(scene)
+    model.do_reckon(seat)
+    mine = model.rows[seat] == scene[4][seat]
+    copies = all(row == scene[4][u] for s, u, row in scene[5] if s == seat)
+    return mine and copies and all(row == scene[4][s] for s, u, letters in scene[6] if u == seat for row in letters)
+
+
+def unfounded(scene, seat, level):
+    first, nexts = scene[0][scene[3][seat]]
+    copies = {u: row for s, u, row in scene[5] if s == seat}
+    mine = scene[4][seat]
+    if level == 0:
+        return mine[0] != value(first, scene[2][seat], [0] * len(copies))
+    if level > len(nexts):
+        return mine[level] != 0
+    made = value(nexts[level - 1], mine[level - 1], [row[level - 1] for row in copies.values()])
+    seen = any(row[level - 1] != scene[4][u][level - 1] for u, row in copies.items())
+    return mine[level] != made or looks(nexts[level - 1]) and seen
+
+
+def wrong(scene):
+    right = run(*scene[:4])
+    return [(s, i) for s, row in enumerate(scene[4]) for i, worth in enumerate(row) if worth != right[s][i]]
+
+
+def is_chain(scene, seat, level, row):
+    """Whether a row of places is a chain from a wrong level, word by word."""
+    bad = wrong(scene)
+    if not row or row[0] != (seat, level) or any(place not in bad for place in row):
+        return False
+    for (s, i), (u, j) in zip(row, row[1:]):
+        nexts = scene[0][scene[3][s]][1]
+        sees = 0 < i <= len(nexts) and looks(nexts[i - 1]) and u in near(scene[1], s)
+        if j != i - 1 or (u != s and not sees):
+            return False
+    return [unfounded(scene, s, i) for s, i in row] == [False] * (len(row) - 1) + [True]
+
+
+def even(scene):
+    """The deeds of an even wave."""
+    ways = sorted((s, u) for s, u, _ in scene[6])
+    lying = {(s, u): len(letters) for s, u, letters in scene[6]}
+    deeds = []
+    for s, u in ways:
+        deeds += [("hear", u, s)] * lying[s, u]
+    deeds += [("reckon", s) for s in range(scene[1][0])]
+    deeds += [("send", s, u) for s, u in ways]
+    deeds += [("hear", u, s) for s, u in ways]
+    return tuple(deeds)
+
+
+def all_behind(scene, deeds):
+    model = Model(scene)
+    for deed in deeds:
+        model.do(deed)
+    return model.scene()

@@ -2,6 +2,8 @@
 
 from random import Random
 
+from tests import model
+
 LEAST = (("word",), (("if", ("ties",), ("low", ("own",), ("least",)), ("own",)),) * 3)
 WALKS = (1, (("sum",), ("sum",)))
 STILL = (("plus", ("word",), ("ties",)), ())
@@ -150,6 +152,35 @@ def some_deed(rng, scene, changes):
     if letters and (kind == "lose" or kind == "double" and len(letters) < 8):
         return (kind, start, end, rng.randrange(len(letters)))
     return ("reckon", seat)
+
+
+def some_run(rng, scene, many, changes):
+    """A run of so many deeds: so often, of a hundred, a change."""
+    deeds = []
+    world = model.Model(scene)
+    for _ in range(many):
+        deeds.append(some_deed(rng, world.scene(), changes))
+        world.do(deeds[-1])
+    return tuple(deeds)
+
+
+def some_wavy_run(rng, scene, many, changes):
+    """A run of stretches: all reckon, all send, all that lies on the roads is heard, or just something is done."""
+    deeds = []
+    world = model.Model(scene)
+    while len(deeds) < many:
+        kind = rng.choice(("reckon", "send", "hear", "hear", "any"))
+        fresh = [some_deed(rng, world.scene(), changes)] if kind == "any" else []
+        if kind == "reckon":
+            fresh = [("reckon", s) for s in range(scene[1][0])]
+        if kind == "send":
+            fresh = [("send", s, u) for s, u in sorted(world.roads)]
+        if kind == "hear":
+            fresh = [("hear", u, s) for s, u in sorted(world.roads) for _ in world.roads[s, u]]
+        for deed in fresh:
+            deeds.append(deed)
+            world.do(deed)
+    return tuple(deeds)
 
 
 def rng_of(number):

@@ -20,6 +20,13 @@ LISTED = {
                   "last_change(scene, deeds)"),
     "runs.waves": ("is_wave(scene, deeds, begin, end, *, apart=())", "waves(scene, deeds, *, apart=())",
                    "wave_ends(scene, deeds, *, apart=())", "shows_waves(scene, deeds, thing, *, apart=())"),
+    "runs.sure": ("sure(scene, deeds, *, right=False)", "sure_tells(scene, deeds, *, right=False)"),
+    "runs.grounds": ("stamps(scene, deeds)", "ground(scene, deeds, seat, level)",
+                     "shows_ground(scene, deeds, seat, level, thing)"),
+    "looks.looks": ("agrees(scene, seat)", "alarms(scene)"),
+    "looks.chains": ("wrong_levels(scene)", "is_unfounded(scene, seat, level)", "chain(scene, seat, level)",
+                     "shows_chain(scene, seat, level, thing)"),
+    "runs.even": ("even_wave(scene)", "even_behind(scene, many)", "need(scene)"),
 }
 NUMBERS = {
     "webs.webs": {"MOST_SEATS": 12}, "plans.terms": {"WORTHS": 997}, "plans.plans": {"MOST_ROUNDS": 6, "MOST_PLANS": 3},

@@ -3,11 +3,16 @@
 import unittest
 
 from comeright import errors
+from comeright.looks.chains import chain, is_unfounded, shows_chain, wrong_levels
+from comeright.looks.looks import agrees, alarms
 from comeright.plain.plain import is_goes, is_words, levels, plain_tells
 from comeright.plain.reach import reach
 from comeright.plans.plans import is_plan, is_plans, looking, rounds, width
 from comeright.plans.terms import comes_to, does_look, is_first, is_next
+from comeright.runs.even import even_behind, even_wave, need
+from comeright.runs.grounds import ground, shows_ground, stamps
 from comeright.runs.runs import behind, is_run, last_change, scene_at
+from comeright.runs.sure import sure, sure_tells
 from comeright.runs.waves import is_wave, shows_waves, wave_ends, waves
 from comeright.scenes.deeds import changed, done, is_change, is_deed
 from comeright.scenes.scenes import (
@@ -18,6 +23,7 @@ from tests.samples import LINE, ODD, PLANS, deep, spoiled
 
 WORDS, GOES = (5, 9, 3, 7), (0, 1, 2, 0)
 SCENE = right_scene(PLANS, LINE, WORDS, GOES)
+FLAT = flat_scene(PLANS, LINE, WORDS, GOES)
 TERM = ("if", ("ties",), ("low", ("own",), ("least",)), ("own",))
 RUN = (("send", 0, 1), ("hear", 1, 0), ("word", 3, 8), ("reckon", 3))
 
@@ -29,6 +35,8 @@ PARTS = ((PLANS, "NoPlans", None), WEB, (WORDS, "NoWords", None), (GOES, "NoGoes
 A_SCENE = (SCENE, "NoScene", None)
 A_RUN = (RUN, "NoRun", "at")
 MOMENT = (3, "NoNumber", "number")
+CALM = (RUN[:2] + RUN[3:], "NoRun", "at")
+LEVEL = (2, "NoNumber", "number")
 # Of each def of the interface its arguments, each with what it is refused with, and what that bears.
 ASKS = (
     (neighbours, (WEB, SEAT)), (steps, (WEB, SEAT, OTHER)), (steps_to, (WEB, SEATS)),
@@ -43,7 +51,12 @@ ASKS = (
     (done, (A_SCENE, (RUN[0], "NoDeed", None))), (is_run, (A_SCENE, (RUN, None, None))), (behind, (A_SCENE, A_RUN)),
     (scene_at, (A_SCENE, A_RUN, MOMENT)), (last_change, (A_SCENE, A_RUN)),
     (is_wave, (A_SCENE, A_RUN, MOMENT, MOMENT)), (waves, (A_SCENE, A_RUN)), (wave_ends, (A_SCENE, A_RUN)),
-    (shows_waves, (A_SCENE, A_RUN, ((3, 4), None, None))),
+    (shows_waves, (A_SCENE, A_RUN, ((3, 4), None, None))), (sure, (A_SCENE, A_RUN)), (sure_tells, (A_SCENE, A_RUN)),
+    (stamps, (A_SCENE, CALM)), (ground, (A_SCENE, CALM, SEAT, LEVEL)),
+    (shows_ground, (A_SCENE, CALM, SEAT, LEVEL, (((2, 0),), None, None))), (agrees, (A_SCENE, SEAT)), (alarms, (A_SCENE,)),
+    (wrong_levels, (A_SCENE,)), (is_unfounded, (A_SCENE, SEAT, LEVEL)), (chain, (A_SCENE, SEAT, LEVEL)),
+    (shows_chain, ((FLAT, "NoScene", None), SEAT, LEVEL, (((1, 2), (1, 1)), None, None))), (even_wave, (A_SCENE,)), (need, (A_SCENE,)),
+    (even_behind, (A_SCENE, (2, "NoNumber", "number"))),
 )
 BY_NAME = (is_wave, waves, wave_ends, shows_waves)
 CHECKS = (is_web, is_first, is_next, is_plan, is_plans, is_scene)

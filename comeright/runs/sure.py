@@ -1,0 +1,86 @@
+"""Sure levels: how many of the first levels of a row, a copy, a letter are surely right."""
+
+from comeright.errors import NotRight
+from comeright.plain.reach import levels_reach
+from comeright.plans.plans import wide
+from comeright.plans.terms import looks
+from comeright.runs.marks import brings, marked
+from comeright.runs.runs import need_run
+from comeright.scenes.deeds import seats_changed
+from comeright.scenes.doings import do
+from comeright.scenes.hands import Hands
+from comeright.scenes.scenes import PLANS, stands_right
+from comeright.webs.webs import steps_from
+
+
+def looking_of(plans):
+    """For each plan the rising numbers of its nexts that look."""
+    return [[at for at, term in enumerate(nexts) if looks(term)] for _, nexts in plans]
+
+
+def number_made(looking, many, held):
+    """How many of the first of so many levels a reckon makes sure, by the numbers of the copies that it looks at."""
+    least = min(held, default=many)
+    for at in looking:
+        if at >= least:
+            return at + 1
+    return many
+
+
+def caps(far, away, many):
+    """For each seat how many of its first levels reach fewer steps than it is away: all where no way leads there."""
+    told = []
+    for row, steps_off in zip(far, away):
+        told.append(many if steps_off is None else len([1 for level in row if level < steps_off]))
+    return told
+
+
+def lessen(hands, most):
+    """Make each number of what is a seat's the lesser of itself and of what is told for the seat."""
+    hands.rows = [min(number, most[seat]) for seat, number in enumerate(hands.rows)]
+    hands.copies = [(seat, other, min(number, most[other])) for seat, other, number in hands.copies]
+    hands.roads = [
+        (seat, other, tuple([min(number, most[seat]) for number in numbers])) for seat, other, numbers in hands.roads
+    ]
+
+
+def numbers_along(scene, deeds, start):
+    """Hands with the numbers behind what surely is a run in the place of rows, copies and letters, from this one on."""
+    hands = Hands(marked(scene, start))
+    looking = looking_of(scene[PLANS])
+    # The reach of all levels, as long as neither the web nor the goes are changed.
+    far = None
+    for deed in deeds:
+        word, seat = deed[0], deed[1]
+        if word == "reckon":
+            hands.rows[seat] = number_made(looking[hands.goes[seat]], hands.wide, hands.held(seat))
+            continue
+        do(hands, brings(deed, 0))
+        if word in ("goes", "put", "cut"):
+            far = None
+        if word in ("word", "goes", "put", "cut"):
+            if far is None:
+                far = levels_reach(hands.plans, hands.web(), hands.goes)
+            lessen(hands, caps(far, steps_from(hands.web(), seats_changed(deed)), hands.wide))
+    return hands
+
+
+def sure_hands(scene, deeds, right):
+    """Hands with the numbers behind a run; refuse what is none, then what isn't right, where it should be."""
+    need_run(scene, deeds)
+    if right and not stands_right(scene):
+        raise NotRight("no right scene")
+    return numbers_along(scene, deeds, wide(scene[PLANS]) if right else 0)
+
+
+def sure(scene, deeds, *, right=False):
+    """How many of the first levels of each row, each copy and each letter are sure behind a run."""
+    hands = sure_hands(scene, deeds, right)
+    return (tuple(hands.rows), tuple(hands.copies), tuple(hands.roads))
+
+
+def sure_tells(scene, deeds, *, right=False):
+    """The rising seats whose told level is sure behind a run."""
+    hands = sure_hands(scene, deeds, right)
+    rounds = [len(nexts) for _, nexts in hands.plans]
+    return tuple([seat for seat, number in enumerate(hands.rows) if number > rounds[hands.goes[seat]]])
