@@ -27,10 +27,19 @@ LISTED = {
     "looks.chains": ("wrong_levels(scene)", "is_unfounded(scene, seat, level)", "chain(scene, seat, level)",
                      "shows_chain(scene, seat, level, thing)"),
     "runs.even": ("even_wave(scene)", "even_behind(scene, many)", "need(scene)"),
+    "plans.made": ("made_plan(word, rounds)",),
+    "layers.joined": ("joined(lower, upper)",),
+    "layers.piles": ("piled(lower, upper)", "is_pile(thing)", "is_pile_deed(pile, thing)", "pile_behind(pile, deeds)",
+                     "parted(pile, deeds)", "is_pile_right(pile)"),
+    "tables.tables": ("is_table(thing)", "standings(table)", "is_standing(table, thing)", "view(table, seat, standing)",
+                      "moves(table, seat, standing)", "able_seats(table, standing)"),
+    "tables.movers": ("nexts(table, standing, movers)", "is_walk(table, movers, thing)"),
 }
 NUMBERS = {
     "webs.webs": {"MOST_SEATS": 12}, "plans.terms": {"WORTHS": 997}, "plans.plans": {"MOST_ROUNDS": 6, "MOST_PLANS": 3},
     "scenes.scenes": {"ROAD": 8}, "runs.runs": {"MOST_DEEDS": 2000},
+    "plans.made": {"MADE": ("least", "most", "steps", "walks")}, "tables.tables": {"MOST_STANDINGS": 729},
+    "tables.movers": {"MOVERS": ("one", "some", "all", "turn")},
 }
 
 

@@ -3,10 +3,13 @@
 import unittest
 
 from comeright import errors
+from comeright.layers.joined import joined
+from comeright.layers.piles import is_pile, is_pile_deed, is_pile_right, parted, pile_behind, piled
 from comeright.looks.chains import chain, is_unfounded, shows_chain, wrong_levels
 from comeright.looks.looks import agrees, alarms
 from comeright.plain.plain import is_goes, is_words, levels, plain_tells
 from comeright.plain.reach import reach
+from comeright.plans.made import made_plan
 from comeright.plans.plans import is_plan, is_plans, looking, rounds, width
 from comeright.plans.terms import comes_to, does_look, is_first, is_next
 from comeright.runs.even import even_behind, even_wave, need
@@ -18,6 +21,8 @@ from comeright.scenes.deeds import changed, done, is_change, is_deed
 from comeright.scenes.scenes import (
     copy_of, flat_scene, is_right, is_scene, loud_scene, plain_of, right_scene, road_of, row_of, tells,
 )
+from comeright.tables.movers import is_walk, nexts
+from comeright.tables.tables import able_seats, is_standing, is_table, moves, standings, view
 from comeright.webs.webs import is_web, neighbours, steps, steps_to, within
 from tests.samples import LINE, ODD, PLANS, deep, spoiled
 
@@ -37,6 +42,14 @@ A_RUN = (RUN, "NoRun", "at")
 MOMENT = (3, "NoNumber", "number")
 CALM = (RUN[:2] + RUN[3:], "NoRun", "at")
 LEVEL = (2, "NoNumber", "number")
+A_PLAN = (PLANS[1], "NoPlan", None)
+PILE = (piled(SCENE, FLAT), "NoPile", None)
+PILE_RUN = ((("lower", ("reckon", 0)), ("upper", ("reckon", 0))), "NoRun", "at")
+# Of four seats each looks at all others, and may move to where the first of them stands.
+SHY = tuple((a,) if a != own else () for own in (0, 1) for a in (0, 1) for _ in range(4))
+TABLE = ((2, tuple((tuple(u for u in range(4) if u != s), SHY) for s in range(4))), "NoTable", None)
+STANDING = ((0, 1, 1, 0), "NoStanding", None)
+SOME = ("some", "NoMovers", None)
 # Of each def of the interface its arguments, each with what it is refused with, and what that bears.
 ASKS = (
     (neighbours, (WEB, SEAT)), (steps, (WEB, SEAT, OTHER)), (steps_to, (WEB, SEATS)),
@@ -56,10 +69,15 @@ ASKS = (
     (shows_ground, (A_SCENE, CALM, SEAT, LEVEL, (((2, 0),), None, None))), (agrees, (A_SCENE, SEAT)), (alarms, (A_SCENE,)),
     (wrong_levels, (A_SCENE,)), (is_unfounded, (A_SCENE, SEAT, LEVEL)), (chain, (A_SCENE, SEAT, LEVEL)),
     (shows_chain, ((FLAT, "NoScene", None), SEAT, LEVEL, (((1, 2), (1, 1)), None, None))), (even_wave, (A_SCENE,)), (need, (A_SCENE,)),
-    (even_behind, (A_SCENE, (2, "NoNumber", "number"))),
+    (even_behind, (A_SCENE, (2, "NoNumber", "number"))), (made_plan, (("steps", "NoPlan", None), (4, "NoNumber", "number"))),
+    (joined, (A_PLAN, A_PLAN)), (piled, (A_SCENE, A_SCENE)), (is_pile_deed, (PILE, (PILE_RUN[0][0], None, None))),
+    (pile_behind, (PILE, PILE_RUN)), (parted, (PILE, PILE_RUN)), (is_pile_right, (PILE,)), (standings, (TABLE,)),
+    (is_standing, (TABLE, (STANDING[0], None, None))), (view, (TABLE, SEAT, STANDING)), (moves, (TABLE, SEAT, STANDING)),
+    (able_seats, (TABLE, STANDING)), (nexts, (TABLE, STANDING, SOME)),
+    (is_walk, (TABLE, SOME, ((STANDING[0], (1, 1, 1, 0)), None, None))),
 )
 BY_NAME = (is_wave, waves, wave_ends, shows_waves)
-CHECKS = (is_web, is_first, is_next, is_plan, is_plans, is_scene)
+CHECKS = (is_web, is_first, is_next, is_plan, is_plans, is_scene, is_pile, is_table)
 
 
 def wrong_in(handed, at):

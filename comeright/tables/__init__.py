@@ -1,0 +1,1 @@
+"""Tables of marks, and the movers that move by them."""

@@ -1,0 +1,155 @@
+"""Tables: seats that look at one another's marks, and may move to others."""
+
+from comeright.errors import NoSeat, NoStanding, NoTable
+
+LEAST_SIZE = 2
+MOST_SIZE = 9
+MOST_HANDS = 6
+MOST_LOOKS = 5
+MOST_STANDINGS = 729
+
+
+def power(size, many):
+    """Size so many times by itself."""
+    told = 1
+    for _ in range(many):
+        told *= size
+    return told
+
+
+def are_looks(many, seat, thing):
+    """Whether it is a row of other ones of so many seats, unlike, in any order."""
+    if type(thing) is not tuple or len(thing) > MOST_LOOKS:
+        return False
+    for at, other in enumerate(thing):
+        if type(other) is not int or not 0 <= other < many or other == seat or other in thing[:at]:
+            return False
+    return True
+
+
+def are_moves(size, views, thing):
+    """Whether it is a row of rising rows of marks, one for each of so many views, its own mark in none."""
+    if type(thing) is not tuple or len(thing) != views:
+        return False
+    # As views rise, so do their own marks: each of them has as many views.
+    alike = views // size
+    for at, marks in enumerate(thing):
+        if type(marks) is not tuple:
+            return False
+        own = at // alike
+        ahead = -1
+        for mark in marks:
+            if type(mark) is not int or not ahead < mark < size or mark == own:
+                return False
+            ahead = mark
+    return True
+
+
+def is_size(thing):
+    """Whether it is a number of marks."""
+    return type(thing) is int and LEAST_SIZE <= thing <= MOST_SIZE
+
+
+def is_table(thing):
+    """Whether it is a table."""
+    if type(thing) is not tuple or len(thing) != 2:
+        return False
+    size, seats = thing
+    if not is_size(size) or type(seats) is not tuple or not 1 <= len(seats) <= MOST_HANDS:
+        return False
+    if power(size, len(seats)) > MOST_STANDINGS:
+        return False
+    for seat, hand in enumerate(seats):
+        if type(hand) is not tuple or len(hand) != 2 or not are_looks(len(seats), seat, hand[0]):
+            return False
+        if not are_moves(size, power(size, 1 + len(hand[0])), hand[1]):
+            return False
+    return True
+
+
+def need_table(table):
+    """Refuse what is no table."""
+    if not is_table(table):
+        raise NoTable("no table")
+
+
+def need_standing(table, standing):
+    """Refuse what is no standing of what surely is a table."""
+    if not stands_in(table, standing):
+        raise NoStanding("no standing of this table")
+
+
+def need_hand(table, seat, standing):
+    """Refuse what is no table, then what is no seat of it, then what is no standing of it."""
+    need_table(table)
+    if type(seat) is not int or not 0 <= seat < len(table[1]):
+        raise NoSeat(seat)
+    need_standing(table, standing)
+
+
+def stands_in(table, thing):
+    """Whether it is a standing of what surely is a table."""
+    size, seats = table
+    if type(thing) is not tuple or len(thing) != len(seats):
+        return False
+    for mark in thing:
+        if type(mark) is not int or not 0 <= mark < size:
+            return False
+    return True
+
+
+def moves_at(table, seat, standing):
+    """The moves of a seat at a standing of what surely is a table."""
+    size, seats = table
+    looks, rows = seats[seat]
+    # The marks of a view are the figures of its number.
+    at = standing[seat]
+    for other in looks:
+        at = at * size + standing[other]
+    return rows[at]
+
+
+def able_at(table, standing):
+    """The rising list of seats that may move at a standing of what surely is a table."""
+    return [seat for seat in range(len(standing)) if moves_at(table, seat, standing) != ()]
+
+
+def all_standings(table):
+    """The rising list of the standings of what surely is a table."""
+    size, seats = table
+    told = [()]
+    for _ in seats:
+        told = [standing + (mark,) for standing in told for mark in range(size)]
+    return told
+
+
+def standings(table):
+    """The rising row of the standings of a table."""
+    need_table(table)
+    return tuple(all_standings(table))
+
+
+def is_standing(table, thing):
+    """Whether it is a standing of a table."""
+    need_table(table)
+    return stands_in(table, thing)
+
+
+def view(table, seat, standing):
+    """The view of a seat at a standing: its own mark, then those of its looks."""
+    need_hand(table, seat, standing)
+    looks, _ = table[1][seat]
+    return (standing[seat],) + tuple([standing[other] for other in looks])
+
+
+def moves(table, seat, standing):
+    """The rising row of marks to which a seat may move at a standing."""
+    need_hand(table, seat, standing)
+    return moves_at(table, seat, standing)
+
+
+def able_seats(table, standing):
+    """The rising row of seats that may move at a standing."""
+    need_table(table)
+    need_standing(table, standing)
+    return tuple(able_at(table, standing))
