@@ -1,6 +1,7 @@
 """The rules for the package's text that can be seen row by row."""
 
 import ast
+import builtins
 import pathlib
 import unittest
 
@@ -18,7 +19,7 @@ METHODS = set(
 TAKEN = set(
     "next iter round hash map filter format id input open vars dir type object property super register law elements "
     "mro exit quit help license credits copyright compile eval exec globals locals os sys gc".split()
-) | BUILTINS
+) | BUILTINS | set(dir(builtins))
 PLAIN = (ast.Import, ast.ImportFrom, ast.FunctionDef, ast.ClassDef, ast.Assign, ast.Expr)
 BARRED = (
     ast.Try, ast.Global, ast.Nonlocal, ast.AsyncFunctionDef, ast.Await, ast.GeneratorExp, ast.SetComp, ast.Set, ast.Yield,

@@ -44,7 +44,7 @@ def need_run_of(plans, web, words, goes):
 
 def makers_for(plans, goes):
     """For each seat the makers of the plan that it goes by."""
-    by_plan = [makers_of(plan, goes.count(number)) for number, plan in enumerate(plans)]
+    by_plan = [makers_of(plan, goes.count(number)) if number in goes else None for number, plan in enumerate(plans)]
     return [by_plan[number] for number in goes]
 
 

@@ -6,14 +6,14 @@ from comeright.plans.terms import looks
 from comeright.webs.webs import all_beside, need_web
 
 
-def looks_of(plan, many):
-    """For each of so many numbers whether a plan has a next of it that looks."""
-    nexts = plan[1]
-    return [looks(term) for term in nexts] + [False] * (many - len(nexts))
+def looking_of(plans):
+    """For each plan whether its nexts look, for each number that one of the plans has a next of."""
+    many = wide(plans) - 1
+    return [[looks(term) for term in nexts] + [False] * (many - len(nexts)) for _, nexts in plans]
 
 
 def reach_of(looking, near, goes):
-    """The reach of each seat's levels: by what nexts look, for each plan, and by the neighbours of each seat."""
+    """The reach of each seat's levels, by which nexts look and by the neighbours of each seat."""
     far = [0] * len(goes)
     told = [far]
     for at in range(len(looking[0])):
@@ -32,8 +32,7 @@ def reach_of(looking, near, goes):
 
 def levels_reach(plans, web, goes):
     """The reach of each seat's levels, of what surely are plans, a web and goes of it."""
-    looking = [looks_of(plan, wide(plans) - 1) for plan in plans]
-    return reach_of(looking, all_beside(web), goes)
+    return reach_of(looking_of(plans), all_beside(web), goes)
 
 
 def reach(plans, web, goes):

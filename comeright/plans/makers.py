@@ -59,27 +59,29 @@ def maker(term):
     return lambda worth, heap: three(worth, heap) if one(worth, heap) == 0 else two(worth, heap)
 
 
-def made_for(term, times):
-    """What tells of a worth and a heap what a term comes to, to be asked so many times."""
-    if times > FEW:
-        return maker(term)
+def teller(term):
+    """The same as a maker of a term, but that goes through it each time."""
     return lambda worth, heap: worth_of(term, worth, heap)
 
 
 def makers_of(plan, times):
     """(first, nexts): what makes level 0 of what surely is a plan, and, for each of its nexts, the level above.
 
-    They are to be asked so many times each.
+    So many times they are to be asked, each: a term that is gone through but a few times need not be made ready.
     """
     first, nexts = plan
+    if times * len(nexts) <= FEW:
+        return (teller(first), [teller(term) for term in nexts])
     told = []
     for at, term in enumerate(nexts):
         alike = nexts.index(term)
         if alike < at:
             told.append(told[alike])
+        elif times * nexts.count(term) > FEW:
+            told.append(maker(term))
         else:
-            told.append(made_for(term, times * nexts.count(term)))
-    return (made_for(first, times), told)
+            told.append(teller(term))
+    return (maker(first) if times > FEW else teller(first), told)
 
 
 def row_made(makers, many, word, held):
@@ -91,5 +93,16 @@ def row_made(makers, many, word, held):
     heaps = list(zip(*held)) if len(held) > 0 else [()] * many
     for make, heap in zip(nexts, heaps):
         worth = make(worth, heap)
+        row.append(worth)
+    return tuple(row) + (0,) * (many - len(row))
+
+
+def row_told(plan, many, word, held):
+    """The same row as its makers make, of what surely is a plan, gone through once."""
+    first, nexts = plan
+    worth = worth_of(first, word, held)
+    row = [worth]
+    for at, term in enumerate(nexts):
+        worth = worth_of(term, worth, [copy[at] for copy in held])
         row.append(worth)
     return tuple(row) + (0,) * (many - len(row))

@@ -2,10 +2,10 @@
 
 from comeright.errors import NoNumber, NoRun
 from comeright.kinds import is_below, is_rising
+from comeright.plain.reach import looking_of
 from comeright.plans.plans import wide
 from comeright.runs.marks import marked
 from comeright.runs.runs import need_run
-from comeright.runs.sure import looking_of
 from comeright.scenes.deeds import seats_changed
 from comeright.scenes.doings import do
 from comeright.scenes.hands import Hands
@@ -47,7 +47,7 @@ def needed(scene, heard, looking, pair):
         return []
     seat, held = heard[at]
     below = level - 1
-    if below not in looking[scene[GOES][seat]]:
+    if not looking[scene[GOES][seat]][below]:
         return [(at, below)]
     return [(at, below)] + [(stamp, below) for stamp in held]
 

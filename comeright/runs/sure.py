@@ -1,9 +1,8 @@
 """Sure levels: how many of the first levels of a row, a copy, a letter are surely right."""
 
 from comeright.errors import NotRight
-from comeright.plain.reach import levels_reach
+from comeright.plain.reach import looking_of, reach_of
 from comeright.plans.plans import wide
-from comeright.plans.terms import looks
 from comeright.runs.marks import brings, marked
 from comeright.runs.runs import need_run
 from comeright.scenes.deeds import seats_changed
@@ -13,16 +12,10 @@ from comeright.scenes.scenes import PLANS, stands_right
 from comeright.webs.webs import steps_from
 
 
-def looking_of(plans):
-    """For each plan the rising numbers of its nexts that look."""
-    return [[at for at, term in enumerate(nexts) if looks(term)] for _, nexts in plans]
-
-
 def number_made(looking, many, held):
     """How many of the first of so many levels a reckon makes sure, by the numbers of the copies that it looks at."""
-    least = min(held, default=many)
-    for at in looking:
-        if at >= least:
+    for at in range(min(held, default=many), many - 1):
+        if looking[at]:
             return at + 1
     return many
 
@@ -60,7 +53,7 @@ def numbers_along(scene, deeds, start):
             far = None
         if word in ("word", "goes", "put", "cut"):
             if far is None:
-                far = levels_reach(hands.plans, hands.web(), hands.goes)
+                far = reach_of(looking, hands.near, hands.goes)
             lessen(hands, caps(far, steps_from(hands.web(), seats_changed(deed)), hands.wide))
     return hands
 

@@ -62,16 +62,17 @@ def do_put(hands, deed):
     hands.tie(tuple(sorted(hands.ties + ((seat, other),))), copies, roads)
 
 
-def without(entries, seat, other):
-    """The copies, or the roads, but those of these two, either way."""
-    return [entry for entry in entries if (entry[0], entry[1]) not in ((seat, other), (other, seat))]
+def without(entries, ahead, back):
+    """The copies, or the roads, but those in two places, the first one ahead of the other."""
+    return entries[:ahead] + entries[ahead + 1:back] + entries[back + 1:]
 
 
 def do_cut(hands, deed):
     """The tie of the seats, their copies and roads are gone."""
     _, seat, other = deed
+    ahead, back = hands.place(seat, other), hands.place(other, seat)
     ties = tuple([tie for tie in hands.ties if tie != (seat, other)])
-    hands.tie(ties, without(hands.copies, seat, other), without(hands.roads, seat, other))
+    hands.tie(ties, without(hands.copies, ahead, back), without(hands.roads, ahead, back))
 
 
 def do_strike(hands, deed):

@@ -1,6 +1,6 @@
 """Hands: what stands in a scene, in lists, for deeds to change."""
 
-from comeright.plans.makers import makers_of, row_made
+from comeright.plans.makers import makers_of, row_made, row_told
 from comeright.plans.plans import wide
 from comeright.webs.webs import all_beside
 
@@ -75,10 +75,12 @@ class Hands:
 
     def made(self, number, word, held):
         """The row that a plan makes by a word and by what a seat has of its neighbours."""
-        # The first time nobody knows whether it is asked for again; the second time it looks like many times more.
-        if self.asked[number] < 2:
-            self.makers[number] = makers_of(self.plans[number], MANY_TIMES if self.asked[number] == 1 else 1)
-            self.asked[number] += 1
+        # A plan is made ready where it is asked for again: the first time nobody knows whether it will be.
+        self.asked[number] += 1
+        if self.asked[number] == 1:
+            return row_told(self.plans[number], self.wide, word, held)
+        if self.asked[number] == 2:
+            self.makers[number] = makers_of(self.plans[number], MANY_TIMES)
         return row_made(self.makers[number], self.wide, word, held)
 
     def web(self):

@@ -58,7 +58,7 @@ def held_in(web, rows, copies, roads):
                 unlike.append(row)
             elif sly[other]:
                 alike.append(row)
-            if letters != ():
+            if len(letters) > 0:
                 if len(letters) > ROAD:
                     return None
                 if letters[0] != rows[seat] or letters.count(rows[seat]) < len(letters):
