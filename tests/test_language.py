@@ -114,6 +114,7 @@ class Language(unittest.TestCase):
             module = {node.id for node in ast.walk(tree) if isinstance(node, ast.Name) and isinstance(node.ctx, ast.Store)}
             module |= {node.name for node in ast.walk(tree) if isinstance(node, (ast.FunctionDef, ast.ClassDef))}
             module |= {a.name for node in ast.walk(tree) if isinstance(node, ast.ImportFrom) for a in node.names}
+            module |= {node.arg for node in ast.walk(tree) if isinstance(node, ast.arg)}
             for node in ast.walk(tree):
                 if isinstance(node, ast.Call) and isinstance(node.func, ast.Name):
                     self.assertIn(node.func.id, module | BUILTINS, (path, node.lineno))

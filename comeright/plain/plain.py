@@ -1,7 +1,7 @@
 """Plain runs: all seats go round by round at once."""
 
 from comeright.errors import NoGoes, NoWords
-from comeright.plans.makers import makers_of
+from comeright.plans.makers import telling
 from comeright.plans.plans import need_plans, wide
 from comeright.plans.terms import WORTHS
 from comeright.webs.webs import all_beside, need_web
@@ -42,20 +42,19 @@ def need_run_of(plans, web, words, goes):
     need_goes(plans, web, goes)
 
 
-def makers_for(plans, goes):
-    """For each seat the makers of the plan that it goes by."""
-    by_plan = [makers_of(plan, goes.count(number)) if number in goes else None for number, plan in enumerate(plans)]
+def tellings_for(plans, goes):
+    """For each seat the telling of the plan that it goes by."""
+    by_plan = [telling(plan, goes.count(number)) for number, plan in enumerate(plans)]
     return [by_plan[number] for number in goes]
 
 
-def next_level(makers, near, below, at):
+def next_level(tellings, near, below, at):
     """For each seat the worth above level at, by the worths that all seats have there; 0 where its plan lacks it."""
     level = []
     for seat, others in enumerate(near):
-        _, nexts = makers[seat]
+        tell, (_, nexts) = tellings[seat]
         if at < len(nexts):
-            make = nexts[at]
-            level.append(make(below[seat], [below[other] for other in others]))
+            level.append(tell(nexts[at], below[seat], [below[other] for other in others]))
         else:
             level.append(0)
     return level
@@ -64,15 +63,15 @@ def next_level(makers, near, below, at):
 def plain_levels(plans, web, words, goes):
     """The levels of each seat in the plain run, of what surely are plans, a web, words and goes of it."""
     near = all_beside(web)
-    makers = makers_for(plans, goes)
+    tellings = tellings_for(plans, goes)
     level = []
     for seat, word in enumerate(words):
-        first, _ = makers[seat]
+        tell, (first, _) = tellings[seat]
         # A first looks at none of the heap: only how many are in it counts.
-        level.append(first(word, near[seat]))
+        level.append(tell(first, word, near[seat]))
     told = [level]
     for at in range(wide(plans) - 1):
-        level = next_level(makers, near, level, at)
+        level = next_level(tellings, near, level, at)
         told.append(level)
     return tuple(zip(*told))
 

@@ -79,6 +79,41 @@ OPS = {
 }
 
 
+def own_worth(worth, heap):
+    """The worth itself."""
+    return worth
+
+
+def heap_ties(worth, heap):
+    """How many neighbours there are."""
+    return len(heap)
+
+
+def heap_sum(worth, heap):
+    """All of the heap together."""
+    return sum(heap) % WORTHS
+
+
+def heap_least(worth, heap):
+    """The least of the heap; 0 of none."""
+    return min(heap) if len(heap) > 0 else 0
+
+
+def heap_most(worth, heap):
+    """The greatest of the heap; 0 of none."""
+    return max(heap) if len(heap) > 0 else 0
+
+
+BARE = {
+    "word": own_worth,
+    "own": own_worth,
+    "ties": heap_ties,
+    "sum": heap_sum,
+    "least": heap_least,
+    "most": heap_most,
+}
+
+
 def is_worth(thing):
     """Whether it is a worth."""
     return is_below(thing, WORTHS)
@@ -145,26 +180,14 @@ def looks(term):
     return term[0] in OF_HEAP or any([looks(part) for part in term[1:]])
 
 
-def bare_worth(word, worth, heap):
-    """What a term of one word comes to."""
-    if word == "own" or word == "word":
-        return worth
-    if word == "ties":
-        return len(heap)
-    if len(heap) == 0:
-        return 0
-    if word == "sum":
-        return sum(heap) % WORTHS
-    return min(heap) if word == "least" else max(heap)
-
-
 def worth_of(term, worth, heap):
     """What a term comes to, of what surely are a term, a worth, and a heap of as many worths as neighbours."""
     if type(term) is int:
         return term
     size = len(term)
     if size == 1:
-        return bare_worth(term[0], worth, heap)
+        telling = BARE[term[0]]
+        return telling(worth, heap)
     if size == 2:
         return heap.count(term[1])
     if size == 3:

@@ -1,6 +1,6 @@
 """Hands: what stands in a scene, in lists, for deeds to change."""
 
-from comeright.plans.makers import makers_of, row_made, row_told
+from comeright.plans.makers import row_made, telling
 from comeright.plans.plans import wide
 from comeright.webs.webs import all_beside
 
@@ -21,7 +21,7 @@ class Hands:
         self.words = list(words)
         self.goes = list(goes)
         self.rows = list(rows)
-        self.makers = [None] * len(plans)
+        self.tellings = [None] * len(plans)
         self.asked = [0] * len(plans)
         # Of each seat what its last reckon went by, and the row that it made.
         self.reckons = [(None, None)] * web[0]
@@ -76,12 +76,11 @@ class Hands:
     def made(self, number, word, held):
         """The row that a plan makes by a word and by what a seat has of its neighbours."""
         # A plan is made ready where it is asked for again: the first time nobody knows whether it will be.
-        self.asked[number] += 1
-        if self.asked[number] == 1:
-            return row_told(self.plans[number], self.wide, word, held)
-        if self.asked[number] == 2:
-            self.makers[number] = makers_of(self.plans[number], MANY_TIMES)
-        return row_made(self.makers[number], self.wide, word, held)
+        if self.asked[number] < 2:
+            self.tellings[number] = telling(self.plans[number], MANY_TIMES if self.asked[number] == 1 else 1)
+            self.asked[number] += 1
+        tell, parts = self.tellings[number]
+        return row_made(tell, parts, self.wide, word, held)
 
     def web(self):
         """The web of the ties."""
