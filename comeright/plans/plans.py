@@ -1,7 +1,7 @@
 """Plans: a first and nexts; rows of plans."""
 
 from comeright.errors import NoPlan, NoPlans
-from comeright.plans.terms import is_first, is_next, looks
+from comeright.plans.terms import are_firsts, are_nexts, looks
 
 MOST_ROUNDS = 6
 MOST_PLANS = 3
@@ -12,12 +12,9 @@ def is_plan(thing):
     if type(thing) is not tuple or len(thing) != 2:
         return False
     first, nexts = thing
-    if type(nexts) is not tuple or len(nexts) > MOST_ROUNDS or not is_first(first):
+    if type(nexts) is not tuple or len(nexts) > MOST_ROUNDS:
         return False
-    for term in nexts:
-        if not is_next(term):
-            return False
-    return True
+    return are_firsts((first,)) and are_nexts(nexts)
 
 
 def is_plans(thing):

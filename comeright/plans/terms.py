@@ -119,15 +119,6 @@ def is_worth(thing):
     return is_below(thing, WORTHS)
 
 
-def is_leaf(thing, bare, pair):
-    """Whether it is a term of these words that has no other terms in it."""
-    if type(thing) is tuple:
-        if len(thing) == 1:
-            return thing[0] in bare
-        return len(thing) == 2 and thing[0] in pair and is_worth(thing[1])
-    return is_worth(thing)
-
-
 def count_terms(thing, bare, pair, deep):
     """How many terms are in a row of three or more; too many where it is no term of these words, or too deep."""
     # Plans are asked for often: so a leaf is looked at in the loop, and only what has terms in it in a call of its own.
@@ -153,18 +144,42 @@ def count_terms(thing, bare, pair, deep):
     return many
 
 
+def are_terms(things, bare, pair):
+    """Whether each of a row of things is a term of these words."""
+    for thing in things:
+        if type(thing) is tuple:
+            size = len(thing)
+            if size == 1:
+                if thing[0] not in bare:
+                    return False
+            elif size > 2:
+                if count_terms(thing, bare, pair, MOST_WITHIN) > MOST_TERMS:
+                    return False
+            elif size == 0 or thing[0] not in pair or not is_worth(thing[1]):
+                return False
+        elif type(thing) is not int or not 0 <= thing < WORTHS:
+            return False
+    return True
+
+
+def are_firsts(things):
+    """Whether each of a row of things is a first."""
+    return are_terms(things, BARE_OF_FIRST, PAIR_OF_FIRST)
+
+
+def are_nexts(things):
+    """Whether each of a row of things is a next."""
+    return are_terms(things, BARE_OF_NEXT, PAIR_OF_NEXT)
+
+
 def is_first(thing):
     """Whether it is a first: a term of a word and of how many neighbours there are."""
-    if type(thing) is tuple and len(thing) > 2:
-        return count_terms(thing, BARE_OF_FIRST, PAIR_OF_FIRST, MOST_WITHIN) <= MOST_TERMS
-    return is_leaf(thing, BARE_OF_FIRST, PAIR_OF_FIRST)
+    return are_firsts((thing,))
 
 
 def is_next(thing):
     """Whether it is a next: a term without word."""
-    if type(thing) is tuple and len(thing) > 2:
-        return count_terms(thing, BARE_OF_NEXT, PAIR_OF_NEXT, MOST_WITHIN) <= MOST_TERMS
-    return is_leaf(thing, BARE_OF_NEXT, PAIR_OF_NEXT)
+    return are_nexts((thing,))
 
 
 def need_term(term):
