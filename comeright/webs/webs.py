@@ -97,6 +97,8 @@ def steps_from(web, seats):
     told = [None] * many
     for seat in seats:
         told[seat] = 0
+    if len(web[1]) == 0:
+        return tuple(told)
     near = all_beside(web)
     reached = list(seats)
     at = 0
