@@ -34,12 +34,17 @@ LISTED = {
     "tables.tables": ("is_table(thing)", "standings(table)", "is_standing(table, thing)", "view(table, seat, standing)",
                       "moves(table, seat, standing)", "able_seats(table, standing)"),
     "tables.movers": ("nexts(table, standing, movers)", "is_walk(table, movers, thing)"),
+    "tables.rules": ("is_rules(thing, *, looks)", "ruled(size, seats)"),
+    "tables.wishes": ("is_wish(thing, *, seats)", "wished(table, wish)"),
+    "cases.verdicts": ("is_case(thing)", "verdict(case)", "comes_right(case)"),
+    "cases.shown": ("shows_ranks(case, thing)", "shows_break(case, thing)"),
+    "cases.lots": ("lots(case)", "binders(case, lot)"),
 }
 NUMBERS = {
     "webs.webs": {"MOST_SEATS": 12}, "plans.terms": {"WORTHS": 997}, "plans.plans": {"MOST_ROUNDS": 6, "MOST_PLANS": 3},
     "scenes.scenes": {"ROAD": 8}, "runs.runs": {"MOST_DEEDS": 2000},
     "plans.made": {"MADE": ("least", "most", "steps", "walks")}, "tables.tables": {"MOST_STANDINGS": 729},
-    "tables.movers": {"MOVERS": ("one", "some", "all", "turn")},
+    "tables.movers": {"MOVERS": ("one", "some", "all", "turn")}, "cases.verdicts": {"MOST_NEXTS": 20000},
 }
 
 

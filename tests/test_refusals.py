@@ -3,6 +3,9 @@
 import unittest
 
 from comeright import errors
+from comeright.cases.lots import binders, lots
+from comeright.cases.shown import shows_break, shows_ranks
+from comeright.cases.verdicts import comes_right, is_case, verdict
 from comeright.layers.joined import joined
 from comeright.layers.piles import is_pile, is_pile_deed, is_pile_right, parted, pile_behind, piled
 from comeright.looks.chains import chain, is_unfounded, shows_chain, wrong_levels
@@ -22,7 +25,9 @@ from comeright.scenes.scenes import (
     copy_of, flat_scene, is_right, is_scene, loud_scene, plain_of, right_scene, road_of, row_of, tells,
 )
 from comeright.tables.movers import is_walk, nexts
+from comeright.tables.rules import ruled
 from comeright.tables.tables import able_seats, is_standing, is_table, moves, standings, view
+from comeright.tables.wishes import wished
 from comeright.webs.webs import is_web, neighbours, steps, steps_to, within
 from tests.samples import LINE, ODD, PLANS, deep, spoiled
 
@@ -50,6 +55,11 @@ SHY = tuple((a,) if a != own else () for own in (0, 1) for a in (0, 1) for _ in 
 TABLE = ((2, tuple((tuple(u for u in range(4) if u != s), SHY) for s in range(4))), "NoTable", None)
 STANDING = ((0, 1, 1, 0), "NoStanding", None)
 SOME = ("some", "NoMovers", None)
+HANDS = (((1,), ((("look", 0), 0),)), ((), ((1, ("plus", ("own",), 1)),)))
+WISH = (("same", ("mark", 0), ("mark", 3)), "NoWish", None)
+RIGHT = tuple(standing for standing in standings(TABLE[0]) if not able_seats(TABLE[0], standing))
+CASE = ((TABLE[0], RIGHT, "some"), "NoCase", None)
+TURN_CASE = ((TABLE[0], RIGHT, "turn"), "NoCase", None)
 # Of each def of the interface its arguments, each with what it is refused with, and what that bears.
 ASKS = (
     (neighbours, (WEB, SEAT)), (steps, (WEB, SEAT, OTHER)), (steps_to, (WEB, SEATS)),
@@ -75,9 +85,12 @@ ASKS = (
     (is_standing, (TABLE, (STANDING[0], None, None))), (view, (TABLE, SEAT, STANDING)), (moves, (TABLE, SEAT, STANDING)),
     (able_seats, (TABLE, STANDING)), (nexts, (TABLE, STANDING, SOME)),
     (is_walk, (TABLE, SOME, ((STANDING[0], (1, 1, 1, 0)), None, None))),
+    (ruled, ((2, "NoRules", None), (HANDS, "NoRules", None))), (wished, (TABLE, WISH)), (verdict, (CASE,)),
+    (comes_right, (CASE,)), (shows_ranks, (CASE, ((None, 0), None, None))), (shows_break, (CASE, (("stuck", 0), None, None))),
+    (lots, (TURN_CASE,)), (binders, (TURN_CASE, (lots(TURN_CASE[0])[0], "NoLot", None))),
 )
 BY_NAME = (is_wave, waves, wave_ends, shows_waves)
-CHECKS = (is_web, is_first, is_next, is_plan, is_plans, is_scene, is_pile, is_table)
+CHECKS = (is_web, is_first, is_next, is_plan, is_plans, is_scene, is_pile, is_table, is_case)
 
 
 def wrong_in(handed, at):

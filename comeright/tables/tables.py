@@ -114,12 +114,27 @@ def able_at(table, standing):
     return [seat for seat in range(len(standing)) if moves_at(table, seat, standing) != ()]
 
 
+def all_rows(size, many):
+    """The rising list of the rows of so many marks."""
+    told = [()]
+    for _ in range(many):
+        told = [row + (mark,) for row in told for mark in range(size)]
+    return told
+
+
 def all_standings(table):
     """The rising list of the standings of what surely is a table."""
     size, seats = table
-    told = [()]
-    for _ in seats:
-        told = [standing + (mark,) for standing in told for mark in range(size)]
+    return all_rows(size, len(seats))
+
+
+def views_at(table, seat, columns):
+    """The numbers of a seat's views at many standings, of which columns has the marks of each seat."""
+    size, seats = table
+    looks, _ = seats[seat]
+    told = list(columns[seat])
+    for other in looks:
+        told = [at * size + mark for at, mark in zip(told, columns[other])]
     return told
 
 
