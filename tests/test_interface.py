@@ -39,6 +39,25 @@ LISTED = {
     "cases.verdicts": ("is_case(thing)", "verdict(case)", "comes_right(case)"),
     "cases.shown": ("shows_ranks(case, thing)", "shows_break(case, thing)"),
     "cases.lots": ("lots(case)", "binders(case, lot)"),
+    "cases.longest": ("most_from(case, standing)", "least_ranks(case)", "longest(case)", "shows_longest(case, thing)"),
+    "made.written": ("ring(seats, size, *, movers='one')", "hues(web, size, *, movers='one')", "alone(web, *, movers='one')",
+                     "tops(web, top, size, *, movers='one')"),
+    "made.ofplans": ("small_run(web, words, plan, *, base)", "plan_case(web, words, plan, *, base, movers='some')",
+                     "mark_of(row, *, base)", "row_of(mark, *, base, rounds)"),
+    "words.texts": ("numbers_text(numbers)", "web_text(web)", "plan_text(plan)", "plans_text(plans)", "deed_text(deed)",
+                    "rules_text(size, seats)", "wish_text(wish, *, seats)", "read_web(text)", "read_plan(text)",
+                    "read_plans(text)", "read_deed(text)", "read_rules(text)", "read_wish(text, *, seats)"),
+}
+CLASSES = {
+    ("house.house", "House"): (
+        "__init__(self, scene)", "do(self, deed)", "reckon(self, seat)", "send(self, seat, other)", "hear(self, seat, other)",
+        "run(self, deeds)", "first(self)", "scene(self)", "log(self)", "told(self, seat)", "is_right(self)", "sure(self)",
+        "waves(self)", "alarms(self)", "back(self, *, many=1)", "twin(self)", "__eq__(self, other)", "__len__(self)",
+        "__str__(self)", "__repr__(self)",
+    ),
+    ("words.desk", "Desk"): (
+        "__init__(self)", "say(self, row)", "say_all(self, rows)", "house(self)", "case(self)", "log(self)", "__len__(self)",
+    ),
 }
 NUMBERS = {
     "webs.webs": {"MOST_SEATS": 12}, "plans.terms": {"WORTHS": 997}, "plans.plans": {"MOST_ROUNDS": 6, "MOST_PLANS": 3},
@@ -56,6 +75,14 @@ class Interface(unittest.TestCase):
                 asked = getattr(module, row.partition("(")[0])
                 self.assertEqual(asked.__name__ + str(inspect.signature(asked)), row)
                 self.assertEqual(asked.__module__, module.__name__)
+
+    def test_classes(self):
+        for (name, word), listed in CLASSES.items():
+            made = getattr(importlib.import_module("comeright." + name), word)
+            self.assertEqual(made.__module__, "comeright." + name)
+            for row in listed:
+                asked = vars(made)[row.partition("(")[0]]
+                self.assertEqual(asked.__name__ + str(inspect.signature(asked)), row)
 
     def test_numbers(self):
         for name, listed in NUMBERS.items():

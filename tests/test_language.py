@@ -14,7 +14,7 @@ BUILTINS = {
 METHODS = set(
     "append clear copy count endswith extend find get index insert isalnum isalpha isdigit islower isspace isupper items "
     "join keys ljust lower lstrip partition pop remove replace reverse rfind rjust rpartition rsplit rstrip setdefault "
-    "split splitlines startswith strip update upper values zfill bit_length".split()
+    "split splitlines startswith strip update upper values zfill bit_length isascii".split()
 )
 TAKEN = set(
     "next iter round hash map filter format id input open vars dir type object property super register law elements "

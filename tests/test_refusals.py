@@ -3,6 +3,7 @@
 import unittest
 
 from comeright import errors
+from comeright.cases.longest import least_ranks, longest, most_from, shows_longest
 from comeright.cases.lots import binders, lots
 from comeright.cases.shown import shows_break, shows_ranks
 from comeright.cases.verdicts import comes_right, is_case, verdict
@@ -10,6 +11,9 @@ from comeright.layers.joined import joined
 from comeright.layers.piles import is_pile, is_pile_deed, is_pile_right, parted, pile_behind, piled
 from comeright.looks.chains import chain, is_unfounded, shows_chain, wrong_levels
 from comeright.looks.looks import agrees, alarms
+from comeright.made import ofplans
+from comeright.made.ofplans import mark_of, plan_case, small_run
+from comeright.made.written import alone, hues, ring, tops
 from comeright.plain.plain import is_goes, is_words, levels, plain_tells
 from comeright.plain.reach import reach
 from comeright.plans.made import made_plan
@@ -25,10 +29,14 @@ from comeright.scenes.scenes import (
     copy_of, flat_scene, is_right, is_scene, loud_scene, plain_of, right_scene, road_of, row_of, tells,
 )
 from comeright.tables.movers import is_walk, nexts
-from comeright.tables.rules import ruled
+from comeright.tables.rules import is_rules, ruled
 from comeright.tables.tables import able_seats, is_standing, is_table, moves, standings, view
-from comeright.tables.wishes import wished
+from comeright.tables.wishes import is_wish, wished
 from comeright.webs.webs import is_web, neighbours, steps, steps_to, within
+from comeright.words.texts import (
+    deed_text, numbers_text, plan_text, plans_text, read_deed, read_plan, read_plans, read_rules, read_web, read_wish, rules_text,
+    web_text, wish_text,
+)
 from tests.samples import LINE, ODD, PLANS, deep, spoiled
 
 WORDS, GOES = (5, 9, 3, 7), (0, 1, 2, 0)
@@ -59,6 +67,7 @@ HANDS = (((1,), ((("look", 0), 0),)), ((), ((1, ("plus", ("own",), 1)),)))
 WISH = (("same", ("mark", 0), ("mark", 3)), "NoWish", None)
 RIGHT = tuple(standing for standing in standings(TABLE[0]) if not able_seats(TABLE[0], standing))
 CASE = ((TABLE[0], RIGHT, "some"), "NoCase", None)
+HUES = (hues(LINE, 3), "NoCase", None)
 TURN_CASE = ((TABLE[0], RIGHT, "turn"), "NoCase", None)
 # Of each def of the interface its arguments, each with what it is refused with, and what that bears.
 ASKS = (
@@ -88,6 +97,29 @@ ASKS = (
     (ruled, ((2, "NoRules", None), (HANDS, "NoRules", None))), (wished, (TABLE, WISH)), (verdict, (CASE,)),
     (comes_right, (CASE,)), (shows_ranks, (CASE, ((None, 0), None, None))), (shows_break, (CASE, (("stuck", 0), None, None))),
     (lots, (TURN_CASE,)), (binders, (TURN_CASE, (lots(TURN_CASE[0])[0], "NoLot", None))),
+    (most_from, (CASE, STANDING)), (least_ranks, (CASE,)), (longest, (CASE,)), (shows_longest, (HUES, ((0, (), ()), None, None))),
+    (ring, ((3, "NoNumber", "number"), (4, "NoNumber", "number"))), (hues, (WEB, (3, "NoNumber", "number"))), (alone, (WEB,)),
+    (tops, (WEB, SEAT, (3, "NoNumber", "number"))), (numbers_text, (((1, 2), "NoNumber", "number"),)), (web_text, (WEB,)),
+    (plan_text, (A_PLAN,)), (plans_text, (PARTS[0],)), (deed_text, ((RUN[0], "NoDeed", None),)),
+    (rules_text, ((2, "NoRules", None), (HANDS, "NoRules", None))), (read_web, ((web_text(LINE), "NoText", "at"),)),
+    (read_plan, ((plan_text(PLANS[0]), "NoText", "at"),)), (read_plans, ((plans_text(PLANS), "NoText", "at"),)),
+    (read_deed, (("word 0 5", "NoText", "at"),)), (read_rules, ((rules_text(2, HANDS), "NoText", "at"),)),
+)
+# Of defs with arguments by name alone: those by place, then those by name, each with what it is refused with.
+NAMED = (
+    (ring, ((3, "NoNumber"), (4, "NoNumber")), {"movers": ("some", "NoMovers")}),
+    (hues, ((LINE, "NoWeb"), (3, "NoNumber")), {"movers": ("some", "NoMovers")}),
+    (alone, ((LINE, "NoWeb"),), {"movers": ("some", "NoMovers")}),
+    (tops, ((LINE, "NoWeb"), (1, "NoSeat"), (3, "NoNumber")), {"movers": ("some", "NoMovers")}),
+    (small_run, ((LINE, "NoWeb"), (WORDS, "NoWords"), (PLANS[2], "NoPlan")), {"base": (3, "NoBase")}),
+    (plan_case, ((LINE, "NoWeb"), (WORDS, "NoWords"), (PLANS[2], "NoPlan")), {"base": (3, "NoBase"), "movers": ("all", "NoMovers")}),
+    (mark_of, (((1, 0), "NoNumber"),), {"base": (3, "NoBase")}),
+    (ofplans.row_of, ((5, "NoNumber"),), {"base": (3, "NoBase"), "rounds": (2, "NoNumber")}),
+)
+# Of these what is told by name goes ahead of all else.
+NAMED_AHEAD = (
+    (is_rules, (((), None),), {"looks": 2}), (is_wish, ((("able",), None),), {"seats": 2}),
+    (wish_text, ((("able",), "NoWish"),), {"seats": 2}), (read_wish, (("able", "NoText"),), {"seats": 2}),
 )
 BY_NAME = (is_wave, waves, wave_ends, shows_waves)
 CHECKS = (is_web, is_first, is_next, is_plan, is_plans, is_scene, is_pile, is_table, is_case)
@@ -149,6 +181,39 @@ class Refused(unittest.TestCase):
                     else:
                         self.refused(ask, good[:at] + [None], "NoSeat", "seat", True, apart=True)
 
+    def test_arguments_by_name(self):
+        for ask, arguments, named in NAMED:
+            good = [argument[0] for argument in arguments]
+            names = {name: argument[0] for name, argument in named.items()}
+            before = repr((good, names))
+            self.assertEqual(repr(ask(*good, **names)), repr(ask(*good, **names)))
+            self.assertEqual(repr((good, names)), before)
+            order = list(enumerate(arguments)) + list(named.items())
+            for place, (at, (_, error)) in enumerate(order):
+                for later, _ in order[place:]:
+                    handed, by_name = list(good), dict(names)
+                    for wrong in (at, later):
+                        if type(wrong) is int:
+                            handed[wrong] = None
+                        else:
+                            by_name[wrong] = None
+                    self.assertRaises(getattr(errors, error), ask, *handed, **by_name)
+
+    def test_arguments_by_name_ahead(self):
+        for ask, arguments, named in NAMED_AHEAD:
+            good = [argument[0] for argument in arguments]
+            self.assertEqual(ask(*good, **named), ask(*good, **named))
+            for wrong in ODD + (7, "no"):
+                for thing in good + [None, "no"]:
+                    (name,) = named
+                    with self.assertRaises(errors.NoNumber) as told:
+                        ask(thing, **{name: wrong})
+                    self.assertIs(told.exception.number, wrong)
+            if arguments[0][1] is not None:
+                self.assertRaises(getattr(errors, arguments[0][1]), ask, None, **named)
+            else:
+                self.assertIs(ask(None, **named), False)
+
     def test_of_anything(self):
         for ask, arguments in ASKS:
             good = [argument[0] for argument in arguments]
@@ -156,7 +221,8 @@ class Refused(unittest.TestCase):
                 if error in (None, "NoSeat", "NoNumber", "NoWords"):
                     continue
                 for thing in ODD:
-                    if error != "NoRun" or thing != ():
+                    # No deeds are a run, and a word is a plan, or begins a deed.
+                    if (error, thing) not in (("NoRun", ()), ("NoText", "word"), ("NoText", "reckon")):
                         self.refused(ask, good[:at] + [thing] + good[at + 1:], error, bearing, thing)
 
     def test_a_part_of_it_is_wrong(self):

@@ -37,43 +37,58 @@ def lessen(hands, most):
     ]
 
 
-def numbers_along(scene, deeds, start):
-    """Hands with the numbers behind what surely is a run in the place of rows, copies and letters, from this one on."""
-    hands = Hands(marked(scene, start))
-    looking = looking_of(scene[PLANS])
-    # The reach of all levels, as long as neither the web nor the goes are changed.
-    far = None
-    for deed in deeds:
+class Numbers:
+    """Along a run, from this number on, how many first levels are sure: hands have the numbers in place of rows."""
+
+    def __init__(self, scene, start):
+        self.hands = Hands(marked(scene, start))
+        self.looking = looking_of(scene[PLANS])
+        # The reach of all levels, as long as neither the web nor the goes are changed.
+        self.far = None
+
+    def goes_on(self, deed):
+        """Go on by one deed more of the run."""
+        hands = self.hands
         word, seat = deed[0], deed[1]
         if word == "reckon":
-            hands.rows[seat] = number_made(looking[hands.goes[seat]], hands.wide, hands.held(seat))
-            continue
+            hands.rows[seat] = number_made(self.looking[hands.goes[seat]], hands.wide, hands.held(seat))
+            return
         do(hands, brings(deed, 0))
         if word in ("goes", "put", "cut"):
-            far = None
+            self.far = None
         if word in ("word", "goes", "put", "cut"):
-            if far is None:
-                far = reach_of(looking, hands.near, hands.goes)
-            lessen(hands, caps(far, steps_from(hands.web(), seats_changed(deed)), hands.wide))
-    return hands
+            if self.far is None:
+                self.far = reach_of(self.looking, hands.near, hands.goes)
+            lessen(hands, caps(self.far, steps_from(hands.web(), seats_changed(deed)), hands.wide))
+
+    def told(self):
+        """The numbers of rows, copies and letters."""
+        return (tuple(self.hands.rows), tuple(self.hands.copies), tuple(self.hands.roads))
 
 
-def sure_hands(scene, deeds, right):
-    """Hands with the numbers behind a run; refuse what is none, then what isn't right, where it should be."""
+def numbers_from(scene, right):
+    """The numbers at the start of a run: from a right start, or from an unknown one."""
+    return Numbers(scene, wide(scene[PLANS]) if right else 0)
+
+
+def numbers_behind(scene, deeds, right):
+    """The numbers behind a run; refuse what is none, then what isn't right, where it should be."""
     need_run(scene, deeds)
     if right and not stands_right(scene):
         raise NotRight("no right scene")
-    return numbers_along(scene, deeds, wide(scene[PLANS]) if right else 0)
+    numbers = numbers_from(scene, right)
+    for deed in deeds:
+        numbers.goes_on(deed)
+    return numbers
 
 
 def sure(scene, deeds, *, right=False):
     """How many of the first levels of each row, each copy and each letter are sure behind a run."""
-    hands = sure_hands(scene, deeds, right)
-    return (tuple(hands.rows), tuple(hands.copies), tuple(hands.roads))
+    return numbers_behind(scene, deeds, right).told()
 
 
 def sure_tells(scene, deeds, *, right=False):
     """The rising seats whose told level is sure behind a run."""
-    hands = sure_hands(scene, deeds, right)
+    hands = numbers_behind(scene, deeds, right).hands
     rounds = [len(nexts) for _, nexts in hands.plans]
     return tuple([seat for seat, number in enumerate(hands.rows) if number > rounds[hands.goes[seat]]])

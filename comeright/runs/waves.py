@@ -3,6 +3,7 @@
 from comeright.kinds import is_rising, is_row
 from comeright.runs.marks import brings, marked
 from comeright.runs.runs import last_change_of, need_moment, need_run
+from comeright.scenes.deeds import seats_changed
 from comeright.scenes.doings import do
 from comeright.scenes.hands import Hands
 from comeright.scenes.scenes import WEB
@@ -18,23 +19,52 @@ def wants(web, apart):
     return {pair: True for pair in reckons + list(pairs(web)) if pair[0] not in apart and pair[1] not in apart}
 
 
+def gift(hands, at, deed):
+    """Do deed at of a run; tell None, or (s, u, number): of wants (s, u) it gives what hangs on the reckon so numbered.
+
+    Hands have in place of each row the number of the reckon that made it: NEVER where it was struck since.
+    """
+    word, seat = deed[0], deed[1]
+    if word == "reckon":
+        hands.rows[seat] = at
+        return (seat, seat, at)
+    if word == "hear":
+        do(hands, deed)
+        return (deed[2], seat, hands.copies[hands.place(seat, deed[2])][2])
+    do(hands, brings(deed, NEVER))
+    return None
+
+
 def gifts(scene, deeds):
-    """For each deed None, or (s, u, number): of wants (s, u) it gives what hangs on the reckon of that number."""
-    told = []
-    # A row is marked by the reckon that made it: by none where it was struck since.
+    """For each deed its gift."""
     hands = Hands(marked(scene, NEVER))
-    for at, deed in enumerate(deeds):
-        word, seat = deed[0], deed[1]
-        if word == "reckon":
-            hands.rows[seat] = at
-            told.append((seat, seat, at))
-        elif word == "hear":
-            do(hands, deed)
-            told.append((deed[2], seat, hands.copies[hands.place(seat, deed[2])][2]))
+    return [gift(hands, at, deed) for at, deed in enumerate(deeds)]
+
+
+class Waves:
+    """Along a run how many waves it shows behind its last change, none apart."""
+
+    def __init__(self, scene):
+        self.hands = Hands(marked(scene, NEVER))
+        self.moment = 0
+        self.begin = 0
+        self.many = 0
+        self.missing = wants(scene[WEB], ())
+
+    def goes_on(self, deed):
+        """Go on by one deed more of the run."""
+        given = gift(self.hands, self.moment, deed)
+        self.moment += 1
+        if seats_changed(deed) != ():
+            self.many = 0
         else:
-            do(hands, brings(deed, NEVER))
-            told.append(None)
-    return told
+            if given is not None and given[2] >= self.begin:
+                self.missing.pop((given[0], given[1]), None)
+            if len(self.missing) > 0:
+                return
+            self.many += 1
+        self.begin = self.moment
+        self.missing = wants(self.hands.web(), ())
 
 
 def wave_end(given, wanted, begin):

@@ -2,8 +2,8 @@
 
 from comeright.plans.terms import OPS, is_worth
 
-MOST_WITHIN = 16
-MOST_TERMS = 200
+WITHIN_TABLES = 16
+TERMS_OF_TABLES = 200
 # Less than can be left of any terms: what is counted so is none.
 NO_TERM = -1
 
@@ -50,7 +50,7 @@ def is_term(thing, words):
 
     Words are a dict: of each word of a leaf None, or below what the number must be that stands with it.
     """
-    return terms_left(thing, words, MOST_WITHIN, MOST_TERMS) != NO_TERM
+    return terms_left(thing, words, WITHIN_TABLES, TERMS_OF_TABLES) != NO_TERM
 
 
 def has_leaf(term, leaf):

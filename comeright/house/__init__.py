@@ -1,0 +1,1 @@
+"""A house: a scene that deeds are done in."""

@@ -1,0 +1,1 @@
+"""Cases made of webs and plans."""
