@@ -6,6 +6,11 @@ def is_below(thing, top):
     return type(thing) is int and 0 <= thing < top
 
 
+def is_number(thing):
+    """Whether it is a whole number from 0 on."""
+    return type(thing) is int and thing >= 0
+
+
 def is_row(thing, least, most):
     """Whether it is a row of least to most parts."""
     return type(thing) is tuple and least <= len(thing) <= most

@@ -132,6 +132,31 @@ class Language(unittest.TestCase):
                 if isinstance(node, ast.Name) and node.id in ("len", "min", "max", "sum", "sorted", "any", "all", "range"):
                     self.assertTrue(id(node) in called or id(node) in asked, (path, node.lineno))
 
+    def test_lists_and_dicts_at_module_level_are_only_looked_into(self):
+        kept = {
+            node.targets[0].id for tree in self.trees.values() for node in tree.body
+            if isinstance(node, ast.Assign) and isinstance(node.value, (ast.Dict, ast.List))
+        }
+        self.assertIn("OPS", kept)
+        for path, tree in self.trees.items():
+            inner = {
+                id(part) for node in ast.walk(tree) if isinstance(node, ast.Assign) and node in tree.body
+                for part in ast.walk(node.value)
+            }
+            well = set()
+            for node in ast.walk(tree):
+                if isinstance(node, ast.Subscript):
+                    well.add(id(node.value))
+                if isinstance(node, ast.Compare):
+                    well |= {id(part) for part in node.comparators}
+                if isinstance(node, (ast.For, ast.comprehension)):
+                    well.add(id(node.iter))
+                if isinstance(node, ast.Call) and isinstance(node.func, ast.Name) and node.func.id in ("list", "dict", "len", "sorted"):
+                    well |= {id(part) for part in node.args}
+            for node in ast.walk(tree):
+                if isinstance(node, ast.Name) and node.id in kept and isinstance(node.ctx, ast.Load):
+                    self.assertTrue(id(node) in well | inner, (path, node.lineno))
+
     def test_no_two_files_import_from_each_other(self):
         near = {}
         for path, tree in self.trees.items():

@@ -33,11 +33,12 @@ def lots_of(net):
         free[start] = False
         at = 0
         while at < len(lot):
-            for number in before[lot[at]]:
+            here = lot[at]
+            at += 1
+            for number in before[here]:
                 if free[number]:
                     free[number] = False
                     lot.append(number)
-            at += 1
         if len(lot) > 0:
             told.append(sorted(lot))
     return told
@@ -75,11 +76,12 @@ def way_within(net, inside, start, goal):
     reached = [start]
     at = 0
     while goal not in ahead:
-        for later in net.onward[reached[at]]:
-            if later in inside and later not in ahead:
-                ahead[later] = reached[at]
-                reached.append(later)
+        here = reached[at]
         at += 1
+        for later in net.onward[here]:
+            if later in inside and later not in ahead:
+                ahead[later] = here
+                reached.append(later)
     told = []
     while goal != start:
         told.append(goal)

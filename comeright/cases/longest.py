@@ -1,9 +1,9 @@
 """Longest walks: how many steps it takes at most till all is right, and the papers that show it."""
 
-from comeright.cases.shown import are_ranks, is_number, number_in
+from comeright.cases.shown import are_ranks, number_in
 from comeright.cases.verdicts import is_case, least_of, net_of, plain_break, steps_right
 from comeright.errors import NoCase
-from comeright.kinds import is_row
+from comeright.kinds import is_number, is_row
 from comeright.tables.tables import need_standing
 
 

@@ -1,12 +1,7 @@
 """What is shown of a case: whether a thing is ranks of it, or a break."""
 
 from comeright.cases.verdicts import net_of_any
-from comeright.kinds import is_row
-
-
-def is_number(thing):
-    """Whether it is a whole number from 0 on."""
-    return type(thing) is int and thing >= 0
+from comeright.kinds import is_number, is_row
 
 
 def is_rank(net, number, thing):

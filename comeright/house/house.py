@@ -1,6 +1,7 @@
 """A house: a scene in which deeds are done and taken back, and what is told of it."""
 
 from comeright.errors import NoBack, NoDeed, NoNumber, NoRun, TooLong
+from comeright.kinds import is_number
 from comeright.looks.looks import look_agrees
 from comeright.runs.runs import MOST_DEEDS, fault
 from comeright.runs.sure import numbers_from
@@ -79,10 +80,8 @@ class House:
 
     def told(self, seat):
         """What a seat tells."""
-        hands = self._hands
-        need_seat(hands.web(), seat)
-        _, nexts = hands.plans[hands.goes[seat]]
-        return hands.rows[seat][len(nexts)]
+        need_seat(self._hands.web(), seat)
+        return self._hands.told(seat)
 
     def is_right(self):
         """Whether the scene is right."""
@@ -103,7 +102,7 @@ class House:
 
     def back(self, *, many=1):
         """Take the last deeds back."""
-        if type(many) is not int or many < 0:
+        if not is_number(many):
             raise NoNumber(many)
         if many > len(self._deeds):
             raise NoBack(many)

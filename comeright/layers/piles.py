@@ -19,12 +19,6 @@ def what_is_told(scene):
     return told_levels(scene[PLANS], scene[GOES], scene[ROWS])
 
 
-def seat_tells(hands, seat):
-    """What a seat tells."""
-    _, nexts = hands.plans[hands.goes[seat]]
-    return hands.rows[seat][len(nexts)]
-
-
 def need_pile(pile):
     """Refuse what is no pile."""
     if not is_pile(pile):
@@ -45,9 +39,9 @@ def do_below(lower, upper, deed):
     """Do a deed of the lower hands; tell the change of the upper ones that it makes, in a row of one or none."""
     do(lower, deed)
     seat = deed[1]
-    if deed[0] not in TELLING or seat_tells(lower, seat) == upper.words[seat]:
+    if deed[0] not in TELLING or lower.told(seat) == upper.words[seat]:
         return []
-    change = ("word", seat, seat_tells(lower, seat))
+    change = ("word", seat, lower.told(seat))
     do(upper, change)
     return [change]
 

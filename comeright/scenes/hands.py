@@ -63,6 +63,11 @@ class Hands:
         start = self.starts[seat]
         return [copy for _, _, copy in self.copies[start:start + len(self.near[seat])]]
 
+    def told(self, seat):
+        """What a seat tells."""
+        _, nexts = self.plans[self.goes[seat]]
+        return self.rows[seat][len(nexts)]
+
     def reckoned(self, seat):
         """The row that a seat's reckon makes."""
         by = (self.goes[seat], self.words[seat], self.held(seat))

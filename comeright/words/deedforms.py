@@ -9,7 +9,6 @@ from comeright.words.figures import number_of, numbers_of, numbers_word, rows_of
 
 # Of no neighbours.
 NOBODY = "."
-MOST_NEAR = MOST_SEATS - 1
 # For each deed the kinds of its parts, those of the row in a put or a strike one by one.
 PARTS = {
     "reckon": ("seat",),
@@ -83,7 +82,7 @@ def are_letters(ahead, part):
 
 def are_copies(ahead, part):
     """Whether it is a row of copies as wide as the row ahead."""
-    return type(part) is tuple and len(part) <= MOST_NEAR and are_levels(wide_of(ahead), part)
+    return type(part) is tuple and len(part) < MOST_SEATS and are_levels(wide_of(ahead), part)
 
 
 def are_roads(ahead, part):

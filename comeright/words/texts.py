@@ -1,6 +1,7 @@
 """Texts: what is written of numbers, webs, plans, deeds, rules and wishes, and what is read of it."""
 
 from comeright.errors import NoDeed, NoNumber, NoWish
+from comeright.kinds import is_number
 from comeright.plans.plans import MOST_PLANS, MOST_ROUNDS, need_plan, need_plans
 from comeright.plans.terms import MOST_TERMS, MOST_WITHIN, WORTHS
 from comeright.tables.rules import MOST_RULES, need_hands
@@ -11,10 +12,6 @@ from comeright.webs.webs import MOST_SEATS, is_web, need_web
 from comeright.words.deedforms import PARTS, deed_of, flat, is_deed_form, part_fits, part_of, word_of
 from comeright.words.figures import NONE, number_of, numbers_of, numbers_word, parts_of
 from comeright.words.reader import Reader
-
-# Of each leaf None, or below what the number is that stands with it.
-LEAVES_OF_FIRST = {"word": None, "ties": None}
-LEAVES_OF_NEXT = {"own": None, "ties": None, "sum": None, "least": None, "most": None, "many": WORTHS}
 
 
 def term_words(term):
@@ -56,10 +53,13 @@ def looks_of(word, seat):
 
 def next_plan(reader):
     """The plan of a reader's next words."""
-    first, _ = reader.next_term(LEAVES_OF_FIRST, MOST_WITHIN, MOST_TERMS)
+    # Of each leaf None, or below what the number is that stands with it.
+    of_first = {"word": None, "ties": None}
+    of_next = {"own": None, "ties": None, "sum": None, "least": None, "most": None, "many": WORTHS}
+    first, _ = reader.next_term(of_first, MOST_WITHIN, MOST_TERMS)
     nexts = []
     while len(nexts) < MOST_ROUNDS and reader.skips(";"):
-        term, _ = reader.next_term(LEAVES_OF_NEXT, MOST_WITHIN, MOST_TERMS)
+        term, _ = reader.next_term(of_next, MOST_WITHIN, MOST_TERMS)
         nexts.append(term)
     return (first, tuple(nexts))
 
@@ -87,7 +87,7 @@ def next_hand(reader, seat):
 
 def numbers_text(numbers):
     """A row of numbers as a text."""
-    if type(numbers) is not tuple or [1 for number in numbers if type(number) is not int or number < 0]:
+    if type(numbers) is not tuple or [1 for number in numbers if not is_number(number)]:
         raise NoNumber(numbers)
     return numbers_word(numbers)
 
@@ -166,7 +166,7 @@ def read_plans(text):
 def read_deed(text):
     """The deed that a text is: one that some scene has by its form."""
     reader = Reader(text)
-    word = reader.next_of(PARTS)
+    word = reader.next_of(list(PARTS))
     parts = []
     for kind in PARTS[word]:
         part = part_of(kind, reader.next_word())
