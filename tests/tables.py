@@ -84,3 +84,30 @@ def near_tables():
     for hand in (seats[0] + ((),), seats[0][:1], list(seats[0]), None, (rows, looks)):
         yield (2, (hand, seats[1]))
     yield from (list(COPY), COPY + ((),), COPY[:1], COPY[::-1], seats)
+
+
+def is_table(thing):
+    """Whether it is a table, mark by mark."""
+    def whole(part, least, top):
+        return type(part) is int and least <= part < top
+
+    def row(part, most):
+        return type(part) is tuple and len(part) <= most
+
+    if not row(thing, 2) or len(thing) != 2 or not whole(thing[0], 2, 10) or not row(thing[1], 6) or not thing[1]:
+        return False
+    size, seats = thing
+    for seat, hand in enumerate(seats):
+        if not row(hand, 2) or len(hand) != 2 or not row(hand[0], 5) or not row(hand[1], 729):
+            return False
+        if not all(whole(look, 0, len(seats)) and look != seat for look in hand[0]) or len(set(hand[0])) < len(hand[0]):
+            return False
+        views = list(product(range(size), repeat=1 + len(hand[0])))
+        if len(hand[1]) != len(views):
+            return False
+        for view, marks in zip(views, hand[1]):
+            if not row(marks, 9) or not all(whole(mark, 0, size) and mark != view[0] for mark in marks):
+                return False
+            if any(one >= two for one, two in zip(marks, marks[1:])):
+                return False
+    return size ** len(seats) <= 729

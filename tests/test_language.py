@@ -22,7 +22,7 @@ TAKEN = set(
 ) | BUILTINS | set(dir(builtins))
 PLAIN = (ast.Import, ast.ImportFrom, ast.FunctionDef, ast.ClassDef, ast.Assign, ast.Expr)
 BARRED = (
-    ast.Try, ast.Global, ast.Nonlocal, ast.AsyncFunctionDef, ast.Await, ast.GeneratorExp, ast.SetComp, ast.Set, ast.Yield,
+    ast.Global, ast.Nonlocal, ast.AsyncFunctionDef, ast.Await, ast.GeneratorExp, ast.SetComp, ast.Set, ast.Yield,
     ast.YieldFrom, ast.With, ast.Div, ast.MatMult, ast.AnnAssign, ast.NamedExpr,
 )
 
@@ -79,6 +79,9 @@ class Language(unittest.TestCase):
                 self.assertNotIsInstance(node, BARRED, (path, getattr(node, "lineno", 0)))
                 if isinstance(node, ast.Constant):
                     self.assertNotIsInstance(node.value, (float, complex))
+                if isinstance(node, ast.Try):
+                    self.assertEqual([ast.unparse(part.type) for part in node.handlers], ["KeyError"])
+                    self.assertEqual(node.finalbody, [])
                 if isinstance(node, ast.FunctionDef):
                     self.assertEqual(node.decorator_list, [])
                     self.assertIsNone(node.returns)

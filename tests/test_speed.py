@@ -7,8 +7,11 @@ from comeright.runs.runs import behind, is_run
 from comeright.runs.waves import waves
 from comeright.scenes.deeds import changed, done, is_change, is_deed
 from comeright.scenes.scenes import copy_of, flat_scene, is_right, is_scene, loud_scene, right_scene, road_of, row_of, tells
+from comeright.tables.movers import is_walk, nexts
+from comeright.tables.tables import is_table
 from comeright.webs.webs import is_web, neighbours, steps, steps_to, within
 from tests.samples import FULL, LEAST, rng_of, some_row, two_ways
+from tests.tables import made
 
 ROUND = ("if", ("ties",), ("low", ("own",), ("least",)), ("own",))
 STEP = ("if", ("less", ("least",), 996), ("if", ("ties",), ("low", ("own",), ("plus", ("least",), 1)), ("own",)), ("own",))
@@ -66,6 +69,20 @@ class Calls(unittest.TestCase):
         )
         self.assertLess(calls(behind, LOUD, wave * 3), 828 * 20)
         self.assertLess(calls(waves, LOUD, wave * 3), 828 * 20)
+
+
+class Tables(unittest.TestCase):
+    def test_no_row_has_a_call_of_its_own(self):
+        rng = rng_of(13)
+        for size, many in ((2, 6), (3, 6), (5, 4), (9, 3)):
+            looks = [[other for other in range(many) if other != seat] for seat in range(many)]
+            for rule in (lambda seat, view: range(size), lambda seat, view: [rng.randrange(size)]):
+                table = made(size, looks, rule)
+                self.assertGreater(sum(len(moves) for _, moves in table[1]), 380)
+                standing = (0,) * many
+                self.assertLess(calls(is_table, table), 180)
+                self.assertLess(calls(nexts, table, standing, "some"), 250)
+                self.assertLess(calls(is_walk, table, "some", (standing,)), 200)
 
 
 class Truths(unittest.TestCase):

@@ -2,10 +2,13 @@
 
 import unittest
 
+from itertools import combinations
+
 from comeright.errors import NoSeat, NoStanding, NoTable
+from comeright.tables.rising import RISING
 from comeright.tables.tables import MOST_STANDINGS, able_seats, is_standing, is_table, moves, standings, view
 from tests import tables
-from tests.samples import ODD, rng_of, spoiled
+from tests.samples import ODD, deep, rng_of, spoiled
 from tests.tables import COPY, ROUND, STILL, made, near_tables, some_table
 
 
@@ -77,6 +80,84 @@ class Tables(unittest.TestCase):
         for thing in ODD + ((0, 2), (0,), (0, 1, 0), [0, 1], (0, True), (False, 0), (-1, 0), (None, 0), ((0,), 0), "01", ((0, 1),)):
             if thing != (0, 0):
                 self.assertIs(is_standing(COPY, thing), False, thing)
+
+
+def shapes():
+    return [(size, many) for size in range(2, 10) for many in range(1, 7) if size ** many <= 729]
+
+
+def rules(rng, size):
+    """What seats may move to: all other marks, one of them, those by chance, none but now and then, those of the own mark."""
+    by_own = [[mark for mark in range(size) if rng.random() < 0.5] for _ in range(size)]
+    pool = [[mark for mark in range(size) if rng.random() < 0.5] for _ in range(4)]
+    return (
+        lambda seat, view: range(size), lambda seat, view: [(view[0] + 1) % size], lambda seat, view: [sum(view) % size],
+        lambda seat, view: [mark for mark in range(size) if rng.random() < 0.5], lambda seat, view: (),
+        lambda seat, view: [rng.randrange(size)] if rng.random() < 0.05 else [], lambda seat, view: by_own[view[0]],
+        lambda seat, view: rng.choice(pool),
+    )
+
+
+def near_marks(rng, size, own, marks):
+    """Things that are like a row of marks, but often none."""
+    at = rng.randrange(len(marks) + 1)
+    other = rng.choice((0, 1, own, size - 1, size, size + 1, -1, 9, 10 ** 39, True, False, None, "", "1", (), (1,), [], [1], {}, {1: 1}))
+    yield marks[:at] + (other,) + marks[at:]
+    yield marks[:at] + (other,) + marks[at + 1:]
+    yield from (marks + marks[-1:], marks[::-1], list(marks), marks[1:], marks[:-1], None, "", "01", 0, True, {}, dict.fromkeys(marks))
+    yield tuple(bool(mark) if mark < 2 else mark for mark in marks)
+    yield tuple(range(size))
+    yield tuple(mark for mark in range(size) if mark != own)
+    yield (deep(lambda told: ("plus", told, told), 30),)
+    yield deep(lambda told: [told, told], 30)
+
+
+class ManyRows(unittest.TestCase):
+    """Rows that are all alike, or one of a few, or many unlike ones, are looked through in ways of their own."""
+
+    def test_all_rising_rows(self):
+        rows = [row for many in range(10) for row in combinations(range(9), many)]
+        self.assertEqual(RISING, {row: sum(2 ** mark for mark in row) for row in rows})
+
+    def test_of_each_shape(self):
+        rng = rng_of(13)
+        for size, many in shapes():
+            for rule in rules(rng, size):
+                looks = [[other for other in range(many) if other != seat][:rng.choice((1, 2, 5, 5))] for seat in range(many)]
+                table = made(size, looks, rule)
+                self.assertIs(is_table(table), True)
+                self.assertIs(tables.is_table(table), True)
+
+    def test_with_one_row_spoiled(self):
+        rng = rng_of(131)
+        told = []
+        for size, many in shapes() * 2:
+            for rule in rules(rng, size):
+                looks = [[other for other in range(many) if other != seat][:rng.choice((1, 2, 5))] for seat in range(many)]
+                table = made(size, looks, rule)
+                seat = rng.randrange(many)
+                row, moves = table[1][seat]
+                alike = len(moves) // size
+                for at in {0, alike - 1, len(moves) - 1, rng.randrange(len(moves)), rng.randrange(len(moves))}:
+                    for thing in rng.sample(list(near_marks(rng, size, at // alike, moves[at])), 4):
+                        near = (row, moves[:at] + (thing,) + moves[at + 1:])
+                        other = (size, table[1][:seat] + (near,) + table[1][seat + 1:])
+                        told.append(is_table(other))
+                        self.assertIs(told[-1], tables.is_table(other), (size, at, thing))
+        self.assertGreater(min(told.count(True), told.count(False)), 200)
+
+    def test_a_truth_in_each_place(self):
+        for size, rule in ((2, lambda seat, view: (0, 1)), (3, lambda seat, view: range(3)), (4, lambda seat, view: range(4)),
+                           (3, lambda seat, view: [sum(view) % 3])):
+            table = made(size, ((1, 2), (0,), (0, 1)), rule)
+            looks, moves = table[1][0]
+            for at, marks in enumerate(moves):
+                for place, mark in enumerate(marks):
+                    if mark < 2:
+                        sly = marks[:place] + (mark == 1,) + marks[place + 1:]
+                        self.assertEqual(sly, marks)
+                        near = (looks, moves[:at] + (sly,) + moves[at + 1:])
+                        self.assertIs(is_table((size, (near,) + table[1][1:])), False)
 
 
 class Asked(unittest.TestCase):

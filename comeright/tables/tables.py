@@ -1,12 +1,18 @@
 """Tables: seats that look at one another's marks, and may move to others."""
 
 from comeright.errors import NoSeat, NoStanding, NoTable
+from comeright.tables.rising import RISING
 
 LEAST_SIZE = 2
 MOST_SIZE = 9
 MOST_HANDS = 6
 MOST_LOOKS = 5
 MOST_STANDINGS = 729
+# A bit for each mark.
+ALL_BITS = 512
+# So many rows are worth a look at whether they are all alike; of so few marks there are at most four rows without one.
+MANY_ROWS = 16
+FEW_MARKS = 3
 
 
 def power(size, many):
@@ -21,27 +27,84 @@ def are_looks(many, seat, thing):
     """Whether it is a row of other ones of so many seats, unlike, in any order."""
     if type(thing) is not tuple or len(thing) > MOST_LOOKS:
         return False
-    for at, other in enumerate(thing):
-        if type(other) is not int or not 0 <= other < many or other == seat or other in thing[:at]:
+    for other in thing:
+        if type(other) is not int or not 0 <= other < many or other == seat or thing.count(other) > 1:
             return False
     return True
 
 
-def are_moves(size, views, thing):
-    """Whether it is a row of rising rows of marks, one for each of so many views, its own mark in none."""
-    if type(thing) is not tuple or len(thing) != views:
-        return False
-    # As views rise, so do their own marks: each of them has as many views.
-    alike = views // size
-    for at, marks in enumerate(thing):
-        if type(marks) is not tuple:
-            return False
-        own = at // alike
-        ahead = -1
-        for mark in marks:
-            if type(mark) is not int or not ahead < mark < size or mark == own:
+def rows_without(size, own):
+    """All rising rows of marks below size but this one."""
+    told = [()]
+    for mark in range(size):
+        if mark != own:
+            told += [row + (mark,) for row in told]
+    return told
+
+
+def are_listed(rows, bits):
+    """Whether each of a row of things is a rising row of marks, none of those that have a bit here."""
+    try:
+        for marks in rows:
+            if type(marks) is not tuple:
                 return False
-            ahead = mark
+            if marks:
+                # Only numbers are looked up: a list among them would be an error of Python's own, a truth be found.
+                for mark in marks:
+                    if type(mark) is not int:
+                        return False
+                if RISING[marks] & bits:
+                    return False
+    except KeyError:
+        return False
+    return True
+
+
+def are_alike(rows):
+    """Whether all of many things are like the first, which is a rising row of marks."""
+    if rows[-1] != rows[0] or rows.count(rows[0]) < len(rows):
+        return False
+    # A truth is alike to 0 or 1: such marks stand in the first two places.
+    return not [1 for column in list(zip(*rows))[:2] for mark in column if type(mark) is not int]
+
+
+def are_among(rows, well):
+    """Whether each of many things is one of a few rows of marks."""
+    for marks in rows:
+        if marks not in well:
+            return False
+        if marks:
+            # A truth is alike to 0 or 1.
+            for mark in marks:
+                if type(mark) is not int:
+                    return False
+    return True
+
+
+def are_many_listed(rows, bits, size, own):
+    """What are_listed tells of many things: often they are all alike, or there are few that they can be."""
+    if not are_listed(rows[:1], bits):
+        return False
+    if are_alike(rows):
+        return True
+    if size <= FEW_MARKS:
+        return are_among(rows, rows_without(size, own))
+    return are_listed(rows, bits)
+
+
+def are_moves(size, alike, thing):
+    """Whether it is a row of rising rows of marks, so many for each own mark, which is in none of its rows."""
+    if type(thing) is not tuple or len(thing) != size * alike:
+        return False
+    # As views rise, so do their own marks. No mark is size or more.
+    beyond = ALL_BITS - (1 << size)
+    for own in range(size):
+        rows = thing[own * alike:own * alike + alike]
+        if alike >= MANY_ROWS:
+            if not are_many_listed(rows, beyond + (1 << own), size, own):
+                return False
+        elif not are_listed(rows, beyond + (1 << own)):
+            return False
     return True
 
 
@@ -57,12 +120,15 @@ def is_table(thing):
     size, seats = thing
     if not is_size(size) or type(seats) is not tuple or not 1 <= len(seats) <= MOST_HANDS:
         return False
-    if power(size, len(seats)) > MOST_STANDINGS:
+    many = len(seats)
+    # An exponent is written with a bound to be seen: there are at most six seats, and five looks.
+    if size ** (many % 7) > MOST_STANDINGS:
         return False
     for seat, hand in enumerate(seats):
-        if type(hand) is not tuple or len(hand) != 2 or not are_looks(len(seats), seat, hand[0]):
+        if type(hand) is not tuple or len(hand) != 2:
             return False
-        if not are_moves(size, power(size, 1 + len(hand[0])), hand[1]):
+        looks, moves = hand
+        if not are_looks(many, seat, looks) or not are_moves(size, size ** (len(looks) % 6), moves):
             return False
     return True
 
