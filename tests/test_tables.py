@@ -5,7 +5,7 @@ import unittest
 from itertools import combinations
 
 from comeright.errors import NoSeat, NoStanding, NoTable
-from comeright.tables.rising import RISING
+from comeright.tables.rising import RISING, WITHOUT
 from comeright.tables.tables import MOST_STANDINGS, able_seats, is_standing, is_table, moves, standings, view
 from tests import tables
 from tests.samples import ODD, deep, rng_of, spoiled
@@ -118,6 +118,11 @@ class ManyRows(unittest.TestCase):
     def test_all_rising_rows(self):
         rows = [row for many in range(10) for row in combinations(range(9), many)]
         self.assertEqual(RISING, {row: sum(2 ** mark for mark in row) for row in rows})
+        self.assertEqual(sorted(WITHOUT), [2, 3, 4])
+        for size, told in WITHOUT.items():
+            for own, well in enumerate(told):
+                self.assertEqual(sorted(well), sorted(row for row in rows if own not in row and all(mark < size for mark in row)))
+            self.assertEqual(len(told), size)
 
     def test_of_each_shape(self):
         rng = rng_of(13)

@@ -1,7 +1,7 @@
-"""All rising rows of marks."""
+"""Rising rows of marks."""
 
-# Of each row the sum of 1 << mark over its marks. Written out: to make them anew for each table that is looked through
-# takes longer than to look it through.
+# All of them, each with the sum of 1 << mark over its marks. They are written out: to make them anew for each table
+# that is looked through would take as long as to look it through.
 RISING = {
     (): 0, (0,): 1, (1,): 2, (0, 1): 3, (2,): 4, (0, 2): 5, (1, 2): 6, (0, 1, 2): 7, (3,): 8, (0, 3): 9, (1, 3): 10,
     (0, 1, 3): 11, (2, 3): 12, (0, 2, 3): 13, (1, 2, 3): 14, (0, 1, 2, 3): 15, (4,): 16, (0, 4): 17, (1, 4): 18,
@@ -100,4 +100,23 @@ RISING = {
     (0, 1, 2, 4, 5, 6, 7, 8): 503, (3, 4, 5, 6, 7, 8): 504, (0, 3, 4, 5, 6, 7, 8): 505, (1, 3, 4, 5, 6, 7, 8): 506,
     (0, 1, 3, 4, 5, 6, 7, 8): 507, (2, 3, 4, 5, 6, 7, 8): 508, (0, 2, 3, 4, 5, 6, 7, 8): 509,
     (1, 2, 3, 4, 5, 6, 7, 8): 510, (0, 1, 2, 3, 4, 5, 6, 7, 8): 511,
+}
+
+# Where there are just so few marks: for each mark all rising rows without it.
+WITHOUT = {
+    2: (
+        ((), (1,)),
+        ((), (0,)),
+    ),
+    3: (
+        ((), (1,), (2,), (1, 2)),
+        ((), (0,), (2,), (0, 2)),
+        ((), (0,), (1,), (0, 1)),
+    ),
+    4: (
+        ((), (1,), (2,), (1, 2), (3,), (1, 3), (2, 3), (1, 2, 3)),
+        ((), (0,), (2,), (0, 2), (3,), (0, 3), (2, 3), (0, 2, 3)),
+        ((), (0,), (1,), (0, 1), (3,), (0, 3), (1, 3), (0, 1, 3)),
+        ((), (0,), (1,), (0, 1), (2,), (0, 2), (1, 2), (0, 1, 2)),
+    ),
 }

@@ -1,7 +1,7 @@
 """Tables: seats that look at one another's marks, and may move to others."""
 
 from comeright.errors import NoSeat, NoStanding, NoTable
-from comeright.tables.rising import RISING
+from comeright.tables.rising import RISING, WITHOUT
 
 LEAST_SIZE = 2
 MOST_SIZE = 9
@@ -10,9 +10,8 @@ MOST_LOOKS = 5
 MOST_STANDINGS = 729
 # A bit for each mark.
 ALL_BITS = 512
-# So many rows are worth a look at whether they are all alike; of so few marks there are at most four rows without one.
+# So many rows are worth a look at whether they are all alike.
 MANY_ROWS = 16
-FEW_MARKS = 3
 
 
 def power(size, many):
@@ -31,15 +30,6 @@ def are_looks(many, seat, thing):
         if type(other) is not int or not 0 <= other < many or other == seat or thing.count(other) > 1:
             return False
     return True
-
-
-def rows_without(size, own):
-    """All rising rows of marks below size but this one."""
-    told = [()]
-    for mark in range(size):
-        if mark != own:
-            told += [row + (mark,) for row in told]
-    return told
 
 
 def are_listed(rows, bits):
@@ -69,7 +59,7 @@ def are_alike(rows):
 
 
 def are_among(rows, well):
-    """Whether each of many things is one of a few rows of marks."""
+    """Whether each of a row of things is one of a few rows of marks."""
     for marks in rows:
         if marks not in well:
             return False
@@ -81,29 +71,26 @@ def are_among(rows, well):
     return True
 
 
-def are_many_listed(rows, bits, size, own):
-    """What are_listed tells of many things: often they are all alike, or there are few that they can be."""
-    if not are_listed(rows[:1], bits):
-        return False
-    if are_alike(rows):
-        return True
-    if size <= FEW_MARKS:
-        return are_among(rows, rows_without(size, own))
-    return are_listed(rows, bits)
+def are_many_listed(rows, bits):
+    """What are_listed tells of many things: often they are all alike."""
+    return are_listed(rows[:1], bits) and (are_alike(rows) or are_listed(rows, bits))
 
 
 def are_moves(size, alike, thing):
     """Whether it is a row of rising rows of marks, so many for each own mark, which is in none of its rows."""
     if type(thing) is not tuple or len(thing) != size * alike:
         return False
-    # As views rise, so do their own marks. No mark is size or more.
+    # No mark is size or more. As views rise, so do their own marks.
     beyond = ALL_BITS - (1 << size)
     for own in range(size):
         rows = thing[own * alike:own * alike + alike]
-        if alike >= MANY_ROWS:
-            if not are_many_listed(rows, beyond + (1 << own), size, own):
-                return False
-        elif not are_listed(rows, beyond + (1 << own)):
+        if size in WITHOUT:
+            well = are_among(rows, WITHOUT[size][own])
+        elif alike < MANY_ROWS:
+            well = are_listed(rows, beyond + (1 << own))
+        else:
+            well = are_many_listed(rows, beyond + (1 << own))
+        if not well:
             return False
     return True
 
