@@ -153,16 +153,17 @@ class ManyRows(unittest.TestCase):
 
     def test_a_truth_in_each_place(self):
         for size, rule in ((2, lambda seat, view: (0, 1)), (3, lambda seat, view: range(3)), (4, lambda seat, view: range(4)),
-                           (3, lambda seat, view: [sum(view) % 3])):
-            table = made(size, ((1, 2), (0,), (0, 1)), rule)
-            looks, moves = table[1][0]
-            for at, marks in enumerate(moves):
-                for place, mark in enumerate(marks):
-                    if mark < 2:
-                        sly = marks[:place] + (mark == 1,) + marks[place + 1:]
-                        self.assertEqual(sly, marks)
-                        near = (looks, moves[:at] + (sly,) + moves[at + 1:])
-                        self.assertIs(is_table((size, (near,) + table[1][1:])), False)
+                           (3, lambda seat, view: [sum(view) % 3]), (5, lambda seat, view: range(5)), (6, lambda seat, view: (0, 1, view[-1]))):
+            table = made(size, ((1, 2), (0, 2), (0, 1)), rule)
+            self.assertIs(is_table(table), True)
+            for seat, (looks, moves) in enumerate(table[1]):
+                for at, marks in enumerate(moves):
+                    for place, mark in enumerate(marks):
+                        if mark < 2:
+                            sly = marks[:place] + (mark == 1,) + marks[place + 1:]
+                            self.assertEqual(sly, marks)
+                            near = (looks, moves[:at] + (sly,) + moves[at + 1:])
+                            self.assertIs(is_table((size, table[1][:seat] + (near,) + table[1][seat + 1:])), False)
 
 
 class Asked(unittest.TestCase):

@@ -50,12 +50,17 @@ def are_listed(rows, bits):
     return True
 
 
+def are_whole(rows):
+    """Whether there are no truths in rows that are alike to rising rows of marks."""
+    # A truth is alike to 0 or 1: such marks stand in the first two places.
+    if len(rows[0]) > 2 and len(rows[-1]) > 2:
+        rows = [marks[:2] for marks in rows]
+    return not [1 for marks in rows for mark in marks if type(mark) is not int]
+
+
 def are_alike(rows):
     """Whether all of many things are like the first, which is a rising row of marks."""
-    if rows[-1] != rows[0] or rows.count(rows[0]) < len(rows):
-        return False
-    # A truth is alike to 0 or 1: such marks stand in the first two places.
-    return not [1 for column in list(zip(*rows))[:2] for mark in column if type(mark) is not int]
+    return rows[-1] == rows[0] and rows.count(rows[0]) == len(rows) and are_whole(rows)
 
 
 def are_among(rows, well):
@@ -111,12 +116,20 @@ def is_table(thing):
     # An exponent is written with a bound to be seen: there are at most six seats, and five looks.
     if size ** (many % 7) > MOST_STANDINGS:
         return False
+    ahead = ()
     for seat, hand in enumerate(seats):
         if type(hand) is not tuple or len(hand) != 2:
             return False
         looks, moves = hand
-        if not are_looks(many, seat, looks) or not are_moves(size, size ** (len(looks) % 6), moves):
+        if not are_looks(many, seat, looks):
             return False
+        alike = size ** (len(looks) % 6)
+        # Often a seat has the same moves as the one ahead.
+        if moves == ahead and len(moves) == size * alike and are_whole(moves):
+            continue
+        if not are_moves(size, alike, moves):
+            return False
+        ahead = moves
     return True
 
 
