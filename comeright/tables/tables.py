@@ -87,6 +87,8 @@ def are_moves(size, alike, thing):
         return False
     # No mark is size or more. As views rise, so do their own marks.
     beyond = ALL_BITS - (1 << size)
+    if alike == 1:
+        return are_listed(thing, beyond) and not [1 for own, marks in enumerate(thing) if own in marks]
     for own in range(size):
         rows = thing[own * alike:own * alike + alike]
         if size in WITHOUT:
