@@ -105,7 +105,7 @@ def plan_case(web, words, plan, *, base, movers="some"):
     rows = [figures(mark, base, rounds) for mark in range(size)]
 
     def marks_of(seat, view):
-        return plan_marks(plan, base, words[seat], [rows[mark] for mark in view])
+        return plan_marks(plan, base, words[seat], [rows[at] for at in view])
 
     right = tuple([number_of(row, base) for row in small_levels(web, words, plan, base)])
     return (table_of(size, all_beside(web), marks_of), (right,), movers)
