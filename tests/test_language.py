@@ -5,6 +5,8 @@ import builtins
 import pathlib
 import unittest
 
+from comeright import errors
+
 TOP = pathlib.Path(__file__).resolve().parent.parent / "comeright"
 BUILTINS = {
     "len", "range", "enumerate", "zip", "min", "max", "sum", "abs", "sorted", "reversed", "int", "str", "bool", "list",
@@ -25,6 +27,59 @@ BARRED = (
     ast.Global, ast.Nonlocal, ast.AsyncFunctionDef, ast.Await, ast.GeneratorExp, ast.SetComp, ast.Set, ast.Yield,
     ast.YieldFrom, ast.With, ast.Div, ast.MatMult, ast.AnnAssign, ast.NamedExpr,
 )
+
+# Calls with stars: what may stand in them, and what may not.
+STARS_WELL = (
+    "zip(*told)", "zip(*net.rows, told)", "made(row(1), *told)", "made(*told, 1, key=net.rows)", "max(*told, key=least)",
+    "made(*(told, 1), [net.rows, ()])", "made(*[told], {'word': told})", "made(**words)", "made(told, 1, **net.words)",
+    "made(*told, **words)", "zip(told, row(1))", "net.made(*told)",
+)
+STARS_ILL = (
+    "zip(*row(1))", "zip(*net.rows())", "zip(told, *row(1))", "zip(*told[0])", "zip(*told[1:])", "zip(*net.hands.rows)",
+    "zip(*row(1).rows)", "zip(*told + told)", "zip(*[row(1)])", "zip(*(told, row(1)))", "zip(*[part for part in told])",
+    "zip(*(told if net else row))", "zip(*told, row(1))", "zip(*told, *row(1))", "max(*told, key=lambda part: part)",
+    "made(*told, size=row(1))", "made(*told, {'word': row(1)})", "made(*told, {**words})", "made(size=1, *told)",
+    "made(**row(1))", "made(**{'size': 1})", "made(**net.hands.words)", "made(row(1), **words)", "made(size=1, **words)",
+    "made(**words, **words)", "list(zip(*row(1)))", "list(*told)", "sorted(*told)", "told.index(*told)", "NoSeat(*told)",
+    "[zip(*row(1)) for part in told]", "made(zip(*row(1)))", "made(*f'{told}')",
+)
+
+
+def is_plain(node):
+    """Whether it may stand behind a star: a name, an attribute off a name, a literal, or a row or dict of these."""
+    if isinstance(node, (ast.List, ast.Tuple)):
+        return all(map(is_plain, node.elts))
+    if isinstance(node, ast.Dict):
+        return all(map(is_plain, node.keys + node.values))
+    if isinstance(node, ast.Attribute):
+        return isinstance(node.value, ast.Name)
+    return isinstance(node, (ast.Name, ast.Constant))
+
+
+def takes_stars(func):
+    """Whether what is called may be called with stars: no error, no builtin but three, no method of a builtin value."""
+    if isinstance(func, ast.Name):
+        return func.id in ("max", "min", "zip") or func.id not in BUILTINS and not hasattr(errors, func.id)
+    return isinstance(func, ast.Attribute) and func.attr not in METHODS
+
+
+def is_well_starred(call):
+    """Whether behind a star of a call, and beside two, stands only what may, no keyword ahead of a star among it."""
+    stars = [at for at, part in enumerate(call.args) if isinstance(part, ast.Starred)]
+    words = [word.value for word in call.keywords if word.arg is None]
+    if not stars and not words:
+        return True
+    if words and (len(call.keywords) > 1 or not isinstance(words[0], (ast.Name, ast.Attribute))):
+        return False
+    if stars and any((word.lineno, word.col_offset) < (call.args[stars[-1]].lineno, call.args[stars[-1]].col_offset) for word in call.keywords):
+        return False
+    behind = (call.args if words else call.args[stars[0]:]) + [word.value for word in call.keywords]
+    return takes_stars(call.func) and all(is_plain(part.value if isinstance(part, ast.Starred) else part) for part in behind)
+
+
+def ill_starred(tree):
+    """The rows of a file in which a call with stars is against the rule."""
+    return [node.lineno for node in ast.walk(tree) if isinstance(node, ast.Call) and not is_well_starred(node)]
 
 
 def texts():
@@ -123,6 +178,15 @@ class Language(unittest.TestCase):
                     self.assertIn(node.func.id, module | BUILTINS, (path, node.lineno))
                 if isinstance(node, ast.Call) and isinstance(node.func, ast.Attribute):
                     self.assertIn(node.func.attr, METHODS | own, (path, node.lineno))
+
+    def test_calls_with_stars(self):
+        """Behind a star, and beside two, stand names, attributes off a name, literals, and rows of these."""
+        for text in STARS_WELL:
+            self.assertEqual(ill_starred(ast.parse(text)), [], text)
+        for text in STARS_ILL:
+            self.assertEqual(ill_starred(ast.parse(text)), [1], text)
+        for path, tree in self.trees.items():
+            self.assertEqual(ill_starred(tree), [], path)
 
     def test_what_is_not_taken_by_name(self):
         """A call of a thing in a table: it is given a name first; builtins are called, not handed on."""

@@ -6,7 +6,8 @@ from comeright.tables.tables import all_standings, power, views_at
 def shifts_of(table):
     """For each standing a row: for each seat the list of what its moves add to the number of the standing."""
     size, seats = table
-    columns = list(zip(*all_standings(table)))
+    standings = all_standings(table)
+    columns = list(zip(*standings))
     told = []
     for seat, (_, rows) in enumerate(seats):
         weight = power(size, len(seats) - 1 - seat)

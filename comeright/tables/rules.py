@@ -46,7 +46,8 @@ def leaves_of(size, columns):
 
 def moves_by(size, looks, rules):
     """For each view, as they rise, the rising marks to which rules let a seat move."""
-    columns = list(zip(*all_rows(size, 1 + len(looks))))
+    views = all_rows(size, 1 + len(looks))
+    columns = list(zip(*views))
     leaves = leaves_of(size, columns)
     own = columns[0]
     told = [[] for _ in own]
