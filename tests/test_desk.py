@@ -5,7 +5,7 @@ import unittest
 from comeright.cases.longest import longest
 from comeright.cases.shown import shows_break
 from comeright.cases.verdicts import verdict
-from comeright.errors import NoBack, NoCase, NoDeed, NoGoes, NoLine, NoSeat, NoTable, NoText, NoWords, TooLong, TooWide
+from comeright.errors import ComeError, NoBack, NoCase, NoDeed, NoGoes, NoLine, NoSeat, NoTable, NoText, NoWords, TooLong, TooWide
 from comeright.house.house import House
 from comeright.scenes.scenes import flat_scene, loud_scene, right_scene
 from comeright.tables.rules import ruled
@@ -139,7 +139,8 @@ class Refused(unittest.TestCase):
         for name, thing in borne.items():
             self.assertEqual(getattr(told.exception, name), thing, row)
         self.assertEqual((repr(desk.house()), desk.house() and desk.house().log(), desk.case(), len(desk) - 1), before)
-        self.assertEqual(desk.log(), log + (("in", row if type(row) is str else ""), ("out", "")))
+        kept = row if type(row) is str else ""
+        self.assertEqual(desk.log(), log + (("in", kept), ("out", kept)))
 
     def test_no_line(self):
         full = desk_of(BEGIN, *STEPS)
@@ -207,32 +208,56 @@ class Refused(unittest.TestCase):
         self.refuses(desk, "most", NoCase)
 
 
+def logged(*rows):
+    """The log of rows: each stands in it twice, as it is, what is no text as ""."""
+    kept = [row if type(row) is str else "" for row in rows]
+    return tuple((word, row) for row in kept for word in ("in", "out"))
+
+
 class Logs(unittest.TestCase):
     def test_rows_in_and_out(self):
         desk = Desk()
-        desk.say(BEGIN)
-        desk.say("tells")
+        self.assertEqual((desk.say(BEGIN), desk.say("tells")), ("ok", "0,0,0"))
+        self.assertEqual(desk.log(), (("in", BEGIN), ("out", BEGIN), ("in", "tells"), ("out", "tells")))
         for row in (None, 5, ["tells"], ("tells",)):
             self.assertRaises(NoLine, desk.say, row)
+        self.assertEqual(desk.log()[4:], (("in", ""), ("out", "")) * 4)
         self.assertRaises(NoText, desk.say, "do x")
-        desk.say("right")
-        self.assertEqual(desk.log(), (
-            ("in", BEGIN), ("out", "ok"), ("in", "tells"), ("out", "0,0,0")) + (("in", ""), ("out", "")) * 4
-            + (("in", "do x"), ("out", ""), ("in", "right"), ("out", "no")))
+        self.assertEqual(desk.say("right"), "no")
+        self.assertEqual(desk.log()[12:], (("in", "do x"), ("out", "do x"), ("in", "right"), ("out", "right")))
         self.assertEqual(len(desk), 8)
+
+    def test_rows_of_all_words_and_refusals(self):
+        desk = Desk()
+        rows = [
+            BEGIN, "do reckon 1", "back 1", "told 0", "waves", "tells", "sure", "alarms", "right", STEPS[0], STEPS[1], "verdict", "most",
+            "", " ", "waves ", "do", "do reckon 3", "back 1", "told 3", "told 00", "begin flat | x", "table 2 | -", "case any 1", "case one mark 2", "nonsense",
+            "case turn 1", "most", "two\nlines", b"tells", True, 0, {"tells": 1}, BEGIN, "tells",
+        ]
+        refused = 0
+        for row in rows:
+            try:
+                desk.say(row)
+            except (ComeError, NoSeat, NoBack):
+                refused += 1
+        self.assertEqual(refused, 19)
+        self.assertEqual(desk.log(), logged(*rows))
+        self.assertEqual(len(desk), len(rows))
 
     def test_many_rows_up_to_the_first_refused(self):
         desk = Desk()
         self.assertEqual(desk.say_all(()), ())
+        self.assertEqual(desk.log(), ())
         self.assertEqual(desk.say_all((BEGIN, "do reckon 0", "waves")), ("ok", "ok", "0"))
+        self.assertEqual(desk.log(), logged(BEGIN, "do reckon 0", "waves"))
         with self.assertRaises(NoText) as told:
             desk.say_all(("do reckon 1", "do reckon 12", "do reckon 2", None))
         self.assertEqual(told.exception.at, 1)
         self.assertEqual(desk.house().log(), (("reckon", 0), ("reckon", 1)))
-        self.assertEqual(desk.log()[6:], (("in", "do reckon 1"), ("out", "ok"), ("in", "do reckon 12"), ("out", "")))
+        self.assertEqual(desk.log()[6:], logged("do reckon 1", "do reckon 12"))
         self.assertEqual(len(desk), 5)
         self.assertRaises(NoLine, desk.say_all, ("tells", None, "tells"))
-        self.assertEqual(desk.log()[10:], (("in", "tells"), ("out", "0,0,0"), ("in", ""), ("out", "")))
+        self.assertEqual(desk.log()[10:], logged("tells", ""))
         log = desk.log()
         for rows in ODD + (["tells"], "tells", {"tells": 1}):
             if type(rows) is not tuple:

@@ -114,7 +114,7 @@ class Desk:
         return self._case
 
     def log(self):
-        """The row of ("in", row) and ("out", row) of all rows begun."""
+        """The row of ("in", row), ("out", row) of each row begun: both with the row itself, "" for what is no text."""
         return tuple(self._log)
 
     def __len__(self):
@@ -122,12 +122,11 @@ class Desk:
 
     def say(self, row):
         """The answer to a row."""
-        self._log.append(("in", row if type(row) is str else ""))
-        # Of a row that is refused nothing comes out.
-        self._log.append(("out", ""))
-        told = self._answer(row)
-        self._log[-1] = ("out", told)
-        return told
+        kept = row if type(row) is str else ""
+        # Both are kept ahead of the answer: so a row that is refused is in the log, too.
+        self._log.append(("in", kept))
+        self._log.append(("out", kept))
+        return self._answer(row)
 
     def say_all(self, rows):
         """The answers to many rows, up to the first that is refused."""
